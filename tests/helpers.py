@@ -1,0 +1,270 @@
+"""What the tests share: a slow doing of their own, values picked by a rule, and wrong values."""
+
+from itertools import combinations
+
+from twobesides.errors import BesidesError, InvalidText, TooMany
+
+
+class Picker:
+    """Numbers that look like chance and are the same in each run."""
+
+    def __init__(self, seed):
+        self.state = seed
+
+    def below(self, many):
+        self.state = (self.state * 6364136223846793005 + 1442695040888963407) & (2 ** 64 - 1)
+        return (self.state >> 33) % many
+
+    def one_of(self, things):
+        return things[self.below(len(things))]
+
+    def answers(self, many):
+        return tuple(self.below(2) for _ in range(many))
+
+    def shuffled(self, things):
+        left = list(things)
+        return tuple(left.pop(self.below(len(left))) for _ in range(len(left)))
+
+
+def pick_company(picker, people):
+    """A company of so many people: of each pair it is tossed whether they know one another."""
+    return people, tuple(pair for pair in combinations(range(people), 2) if picker.below(2))
+
+
+def pick_two_named(picker, named):
+    return picker.shuffled(range(named))[:2]
+
+
+def pick_deed(picker, named):
+    word = picker.one_of(("pairs", "takes", "tie")) if named > 1 else "pairs"
+    if word == "pairs":
+        return word, picker.below(named), picker.answers(6)
+    one, other = pick_two_named(picker, named)
+    return word, one, other, picker.answers(4) if word == "takes" else picker.one_of(("know", "part", "turn"))
+
+
+def pick_script(picker, named, many, depth=2):
+    """A script of so many items, with choices, for more than one named one, down to a depth."""
+    items = []
+    for _ in range(many):
+        if named > 1 and depth > 0 and picker.below(3) == 0:
+            one, other = pick_two_named(picker, named)
+            scripts = [pick_script(picker, named, picker.below(3), depth - 1) for _ in range(2)]
+            items.append(("ask", one, other, scripts[0], scripts[1]))
+        else:
+            items.append(pick_deed(picker, named))
+    return tuple(items)
+
+
+def every_company(people):
+    """All companies of so many people, in Python's order."""
+    pairs = list(combinations(range(people), 2))
+    ties = [some for many in range(len(pairs) + 1) for some in combinations(pairs, many)]
+    return [(people, some) for some in sorted(ties)]
+
+
+def every_deed(named):
+    """All deeds for so many named ones."""
+    deeds = [("pairs", doer, answers) for doer in range(named) for answers in every_answers(6)]
+    for one in range(named):
+        for other in range(named):
+            if one != other:
+                deeds += [("takes", one, other, answers) for answers in every_answers(4)]
+                deeds += [("tie", one, other, word) for word in ("know", "part", "turn")]
+    return deeds
+
+
+def every_answers(many):
+    return [tuple(number >> index & 1 for index in range(many)) for number in range(2 ** many)]
+
+
+def slow_know(company, one, other):
+    return (min(one, other), max(one, other)) in company[1]
+
+
+def slow_told(company, one, other, deed):
+    """Whether one and other know one another behind a deed, by the words of [5]."""
+    know = slow_know(company, one, other)
+    if deed[0] == "pairs":
+        _, doer, answers = deed
+        if doer in (one, other):
+            return know
+        many = slow_know(company, doer, one) + slow_know(company, doer, other)
+        return answers[3 * know + many] == 1
+    if deed[0] == "takes":
+        _, taker, giver, answers = deed
+        if taker not in (one, other) or giver in (one, other):
+            return know
+        person = other if taker == one else one
+        return answers[2 * slow_know(company, taker, person) + slow_know(company, giver, person)] == 1
+    if {one, other} != {deed[1], deed[2]}:
+        return know
+    return {"know": True, "part": False, "turn": not know}[deed[3]]
+
+
+def slow_deed(company, deed):
+    pairs = combinations(range(company[0]), 2)
+    return company[0], tuple(pair for pair in pairs if slow_told(company, pair[0], pair[1], deed))
+
+
+def slow_deeds(company, script):
+    """The deeds that are done, in turn, and the company behind them."""
+    deeds = []
+    for item in script:
+        if item[0] == "ask":
+            branch = item[3] if slow_know(company, item[1], item[2]) else item[4]
+            more, company = slow_deeds(company, branch)
+            deeds += more
+        else:
+            deeds.append(item)
+            company = slow_deed(company, item)
+    return deeds, company
+
+
+def slow_done(company, script):
+    return slow_deeds(company, script)[1]
+
+
+def slow_part(named, company, besides):
+    people = list(range(named)) + list(besides)
+    pairs = combinations(range(len(people)), 2)
+    return len(people), tuple(pair for pair in pairs if slow_know(company, people[pair[0]], people[pair[1]]))
+
+
+def slow_table(named, script):
+    views = every_company(named + 2)
+    return tuple(views.index(slow_done(view, script)) for view in views)
+
+
+def nested(value, deep):
+    """A value in tuples and lists, so many deep."""
+    for level in range(deep):
+        value = (value,) if level % 2 else [value]
+    return value
+
+
+def asks(deep):
+    """A choice with choices in both of its scripts, a hundred deep: far too many to be visited."""
+    script = ()
+    for _ in range(deep):
+        script = (("ask", 0, 1, script, script),)
+    return script
+
+
+ANYTHING = [
+    None, True, False, -1, 10 ** 119, -10 ** 119, "", "1", "pairs", "~" * 4000, "\n", [], [1], [()], (None,), (True,),
+    ("",), (-1, ()), [2, []], (True, ()), ((0, 1),), (0,) * 1000, ((),) * 1000, [0] * 1000, nested(0, 99),
+    asks(49), BesidesError("x"), InvalidText(3), (TooMany(9),), (InvalidText(0), ()),
+]
+
+
+def wrong_nameds():
+    return ANYTHING + [0, 4, (), (1,), "2", [2]]
+
+
+def wrong_companies(named):
+    """Values that are no companies for so many named ones, though some are nearly such."""
+    full = named + 2
+    ties = [
+        [], None, 0, "", True, ((1, 0),), ((0, 0),), ((0, 1), (0, 1)), ((0, 2), (0, 1)), ((1, 2), (0, 1)), ((0, full),),
+        ((-1, 0),), ((0, True),), ((False, 1),), ([0, 1],), [(0, 1)], ((0,),), ((0, 1, 2),), ((0, "1"),), (None,), (0, 1),
+        ((0, 1), 1), ((0, 1), None), ((0, (1,)),), ((0, 1), (1, 2), (0, 2)),
+    ]
+    wrong = [(full, some) for some in ties] + [[full, ()], (full,), (full, (), ()), full, (str(full), ()), (None, ())]
+    return ANYTHING + wrong + [(named - 1, ()), (0, ()), (10, ()), (True, ()), ((full,), ()), ((), full), ()]
+
+
+def wrong_deeds(named):
+    """Values that are no deeds, and no choices, for so many named ones."""
+    six, four = (0, 1, 0, 1, 0, 1), (0, 1, 1, 0)
+    wrong = [
+        (), ("pairs",), ("pairs", 0), ("pairs", 0, six, 0), ["pairs", 0, six], ("pairs", 0, list(six)), ("pairs", named, six),
+        ("pairs", -1, six), ("pairs", True, six), ("pairs", False, six), ("pairs", "0", six), ("pairs", None, six),
+        ("pairs", 0, six + (0,)), ("pairs", 0, six[:5]), ("pairs", 0, ()), ("pairs", 0, None), ("pairs", 0, "010101"),
+        ("pairs", 0, (0, 1, 0, 1, 0, 2)), ("pairs", 0, (0, 1, 0, 1, 0, -1)), ("pairs", 0, (0, 1, 0, 1, 0, True)),
+        ("pairs", 0, (False,) + six[1:]), ("pairs", 0, (None,) * 6), ("pairs", 0, ("0",) * 6), ("pair", 0, six),
+        ("Pairs", 0, six), ("takes", 0, six), ("tie", 0, six), ("pairs", 0, 1, four), (None, 0, six),
+        (0, 0, six), (("pairs",), 0, six), "pairs", 0, None, True, (0, 0, 1, four), ("pairs", 0, (six,)),
+        ("ask", 0, 0, (), ()), ("ask", 0, named, (), ()), ("ask", -1, 0, (), ()), ("ask", 0, True, (), ()),
+        ("takes", 0, 0, four), ("takes", 0, named, four), ("takes", named, 0, four), ("tie", 0, 0, "know"),
+        ("tie", 0, named, "know"), ("tie", -1, 0, "know"),
+    ]
+    if named == 1:
+        wrong += [("takes", 0, 1, four), ("tie", 0, 1, "know"), ("ask", 0, 1, (), ())]
+    else:
+        wrong += wrong_deeds_of_two(six, four)
+    return wrong
+
+
+def wrong_deeds_of_two(six, four):
+    return [
+        ("takes", 0, 1), ("takes", 0, 1, four, 0), ("takes", 0, 1, list(four)), ("takes", 0, 1, six), ("takes", 0, 1, ()),
+        ("takes", 0, True, four), ("takes", False, 1, four), ("takes", -1, 1, four), ("takes", 0, "1", four),
+        ("takes", 0, None, four), ("takes", 0, 1, (0, 1, 1, 2)), ("takes", 0, 1, (0, 1, 1, -1)), ["takes", 0, 1, four],
+        ("takes", 0, 1, (0, 1, True, 0)), ("takes", 0, 1, None), ("takes", 0, 1, "know"), ("take", 0, 1, four),
+        ("tie", 0, 1), ("tie", 0, 1, "know", 0), ("tie", 0, 1, "knows"), ("tie", 0, 1, "Know"), ("tie", 0, 1, ""),
+        ("tie", 0, 1, "kno"), ("tie", 0, 1, None), ("tie", 0, 1, 1), ("tie", 0, 1, True), ("tie", 0, 1, ("know",)),
+        ("tie", 0, 1, four), ("tie", 0, True, "know"), ("tie", False, 1, "know"), ["tie", 0, 1, "know"],
+        ("tie", (0,), 1, "know"), ("ask", 0, 1, ()), ("ask", 0, 1, (), (), ()), ["ask", 0, 1, (), ()], ("ask", 0, 1, [], ()),
+        ("ask", 0, 1, (), []), ("ask", 0, 1, None, ()), ("ask", 0, 1, (), None), ("ask", 0, 1, ("tie", 0, 1, "know"), ()),
+        ("ask", 0, 1, (), ("tie", 0, 1, "know")), ("ask", 0, 1, ((),), ()), ("ask", 0, 1, (), ((),)),
+        ("ask", False, 1, (), ()), ("ask", 0, "1", (), ()), ("asks", 0, 1, (), ()), ("ask", 0, 1, (("tie", 0, 0, "know"),), ()),
+        ("ask", 0, 1, (), (("tie", 0, 1, "knew"),)), ("know", 0, 1, "tie"), (1, 0, 1, "know"),
+    ]
+
+
+def wrong_scripts(named):
+    """Values that are no scripts for so many named ones."""
+    good = ("pairs", 0, (0, 0, 0, 1, 1, 1))
+    wrong = [(deed,) for deed in wrong_deeds(named)] + [(good, deed) for deed in wrong_deeds(named)]
+    wrong += [good, [good], (good,) * 31, (good,) * 1000, ((good,),), (good, (good,))]
+    if named > 1:
+        wrong += [deep_script(5), (good,) * 30 + (("ask", 0, 1, (), ()),), (("ask", 0, 1, (good,) * 15, (good,) * 15),)]
+    return [value for value in ANYTHING if value != ()] + wrong
+
+
+def deep_script(depth, second=True):
+    """A script of a depth; the choices stand in second, or in first scripts."""
+    script = ()
+    for _ in range(depth):
+        script = (("ask", 0, 1, (), script) if second else ("ask", 0, 1, script, ()),)
+    return script
+
+
+def wrong_people(people):
+    """Values that are nobody in a company of so many."""
+    return ANYTHING + [people, people + 1, -people, "0", (0,), [0], ()]
+
+
+def wrong_besides(named, people):
+    """Values that are no tuples of unlike people besides."""
+    last = people - 1
+    return [value for value in ANYTHING if value != ()] + [
+        last, (0,), (named - 1,), (people,), (-1,), (last, last), (last, 0), [last], (str(last),), (last, None), (last, (last,)),
+        (last, True), (True, last), (last, people), ((),),
+    ]
+
+
+def refuse(test, function, rows):
+    """Ask a function with wrong arguments: rows hold a good value, its error, and wrong values.
+
+    Each wrong value is asked for alone; then together with wrong values of later arguments, where
+    the error of the first one is to be raised.
+    """
+    goods = [row[0] for row in rows]
+    for index, (_, error, wrongs) in enumerate(rows):
+        for wrong in wrongs:
+            refuse_one(test, function, goods[:index] + [wrong] + goods[index + 1:], error)
+        for later in range(index + 1, len(rows)):
+            for count, wrong in enumerate(wrongs):
+                also = rows[later][2][(7 * count) % len(rows[later][2])]
+                values = goods[:index] + [wrong] + goods[index + 1:later] + [also] + goods[later + 1:]
+                refuse_one(test, function, values, error)
+        everything = goods[:index] + [row[2][0] for row in rows[index:]]
+        refuse_one(test, function, everything, error)
+
+
+def refuse_one(test, function, values, error):
+    with test.assertRaises(error) as caught:
+        function(*values)
+    test.assertIs(type(caught.exception), error)

@@ -1,0 +1,104 @@
+"""Point 2: names of arguments, nothing modified, each list new."""
+
+import inspect
+import unittest
+from copy import deepcopy
+
+from twobesides import companies, companyviews, doing, scripts, views
+from twobesides.errors import BesidesError
+
+P = (4, ((0, 2), (1, 3)))
+Q = (("takes", 0, 1, (0, 1, 1, 0)), ("ask", 0, 1, (), (("tie", 0, 1, "know"),)))
+
+CALLS = [
+    (companies.is_company, "named value", (2, P)),
+    (companies.do_know, "named company person other", (2, P, 0, 1)),
+    (companies.known_to, "named company person", (2, P, 0)),
+    (companies.part_of, "named company besides", (2, P, (3, 2))),
+    (scripts.is_script, "named value", (2, Q)),
+    (scripts.count_deeds, "named script", (2, Q)),
+    (scripts.depth_of, "named script", (2, Q)),
+    (scripts.deeds_done, "named company script", (2, P, Q)),
+    (doing.done, "named company script", (2, P, Q)),
+    (doing.done_on, "named company script", (2, P, Q)),
+    (views.views_of, "named", (2,)),
+    (views.view_number, "named company", (2, P)),
+    (views.table_of, "named script", (2, Q)),
+    (companyviews.view_numbers, "named company", (2, P)),
+    (companyviews.company_of_views, "named besides numbers", (1, 3, (2, 1, 4))),
+    (companyviews.with_person, "named company people", (2, P, (0, 3))),
+]
+
+
+def with_lists(value):
+    """The value with a list for each tuple in it."""
+    return [with_lists(part) for part in value] if isinstance(value, tuple) else value
+
+
+def lists_in_turn(value):
+    """The values that have a list in the place of one of the tuples in a value."""
+    if not isinstance(value, tuple):
+        return []
+    told = [list(value)]
+    for at, part in enumerate(value):
+        told += [value[:at] + (inner,) + value[at + 1:] for inner in lists_in_turn(part)]
+    return told
+
+
+class Conventions(unittest.TestCase):
+    def test_names_of_arguments(self):
+        for function, names, _ in CALLS:
+            self.assertEqual(list(inspect.signature(function).parameters), names.split(), function.__name__)
+
+    def test_arguments_stay_and_answers_do(self):
+        for function, _, values in CALLS:
+            before = deepcopy(values)
+            told = function(*values)
+            self.assertEqual(values, before, function.__name__)
+            self.assertEqual(function(*values), told)
+
+    def test_each_list_is_new(self):
+        for function, _, values in CALLS:
+            told = function(*values)
+            if isinstance(told, list):
+                kept = list(told)
+                told.append(None)
+                self.assertEqual(function(*values), kept, function.__name__)
+                self.assertIsNot(function(*values), function(*values))
+
+    def test_lists_in_the_place_of_tuples(self):
+        for function, _, values in CALLS:
+            for at, value in enumerate(values):
+                if isinstance(value, tuple):
+                    for wrong in [with_lists(value)] + lists_in_turn(value):
+                        self.refused_and_left(function, values[:at] + (wrong,) + values[at + 1:])
+
+    def refused_and_left(self, function, values):
+        before = deepcopy(values)
+        if function.__name__.startswith("is_"):
+            self.assertIs(function(*values), False)
+        else:
+            with self.assertRaises(BesidesError):
+                function(*values)
+        self.assertEqual(values, before)
+
+    def test_booleans_in_the_place_of_integers(self):
+        for function, _, values in CALLS:
+            for wrong in self.booleans_in_turn(values[0]):
+                self.assertRaises(BesidesError, function, wrong, *values[1:])
+            for at, value in enumerate(values[1:], 1):
+                for wrong in self.booleans_in_turn(value):
+                    self.refused_and_left(function, values[:at] + (wrong,) + values[at + 1:])
+
+    def booleans_in_turn(self, value):
+        """The values that have a boolean, equal to it where one is, in the place of one integer."""
+        if isinstance(value, tuple):
+            told = []
+            for at, part in enumerate(value):
+                told += [value[:at] + (inner,) + value[at + 1:] for inner in self.booleans_in_turn(part)]
+            return told
+        return [bool(value)] if isinstance(value, int) else []
+
+
+if __name__ == "__main__":
+    unittest.main()

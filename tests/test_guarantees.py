@@ -1,0 +1,105 @@
+"""Point 3: what holds for all companies and scripts, at many that are worked out here."""
+
+import unittest
+from itertools import permutations
+
+from tests.helpers import Picker, every_company, every_deed, pick_company, pick_script
+from twobesides.companies import part_of
+from twobesides.companyviews import company_of_views, view_numbers, with_person
+from twobesides.doing import done
+from twobesides.scripts import deeds_done
+from twobesides.views import table_of, views_of
+
+
+def picked_scripts(seed, named, many):
+    picker = Picker(seed)
+    return [pick_script(picker, named, 1 + picker.below(4)) for _ in range(many)]
+
+
+class Parts(unittest.TestCase):
+    def test_what_comes_of_a_part_is_the_part_of_what_comes(self):
+        picker = Picker(20)
+        for named in (1, 2, 3):
+            for script in picked_scripts(21 + named, named, 60):
+                company = pick_company(picker, 9)
+                besides = picker.shuffled(range(named, 9))[:picker.below(10 - named)]
+                behind = done(named, company, script)
+                self.assertEqual(done(named, part_of(named, company, besides), script), part_of(named, behind, besides))
+
+    def test_one_person_more_changes_nothing_of_the_others(self):
+        picker = Picker(22)
+        for named in (1, 2, 3):
+            for script in picked_scripts(23 + named, named, 60):
+                company = pick_company(picker, named + picker.below(9 - named))
+                people = company[0]
+                friends = tuple(person for person in range(people) if picker.below(2))
+                behind = done(named, with_person(named, company, friends), script)
+                self.assertEqual(part_of(named, behind, tuple(range(named, people))), done(named, company, script))
+
+    def test_the_start_tells_which_deeds_are_done(self):
+        picker = Picker(24)
+        for named in (2, 3):
+            for script in picked_scripts(25 + named, named, 60):
+                told = {}
+                for _ in range(20):
+                    company = pick_company(picker, named + picker.below(4))
+                    deeds = deeds_done(named, company, script)
+                    start = part_of(named, company, ())
+                    self.assertEqual(told.setdefault(start, deeds), deeds)
+                    self.assertEqual(deeds_done(named, start, script), deeds)
+
+
+class Tables(unittest.TestCase):
+    def test_table_of_two_scripts_behind_one_another(self):
+        for named, many in ((1, 60), (2, 40), (3, 8)):
+            scripts = picked_scripts(26 + named, named, many)
+            for first, second in zip(scripts, scripts[1:]):
+                table, behind = table_of(named, first), table_of(named, second)
+                self.assertEqual(table_of(named, first + second), tuple(behind[number] for number in table))
+
+    def test_like_tables_do_the_same_to_each_company(self):
+        picker = Picker(27)
+        for named, scripts in ((1, self.short_scripts()), (2, [(deed,) for deed in every_deed(2)] + [()])):
+            kinds = {}
+            for script in scripts:
+                kinds.setdefault(table_of(named, script), []).append(script)
+            self.assertLess(len(kinds), len(scripts))
+            for alike in kinds.values():
+                for company in [pick_company(picker, people) for people in range(named, 10)]:
+                    behind = {done(named, company, script) for script in alike[:6]}
+                    self.assertEqual(len(behind), 1)
+
+    def short_scripts(self):
+        deeds = every_deed(1)[::3]
+        return [()] + [(deed,) for deed in deeds] + [(deed, other) for deed in deeds for other in deeds]
+
+    def test_unlike_tables_part_some_view(self):
+        for named in (1, 2):
+            scripts = picked_scripts(28 + named, named, 24)
+            for one in scripts:
+                for other in scripts:
+                    parted = [view for view in views_of(named) if done(named, view, one) != done(named, view, other)]
+                    self.assertEqual(parted == [], table_of(named, one) == table_of(named, other))
+
+
+class ViewNumbers(unittest.TestCase):
+    def test_companies_are_one_just_if_their_view_numbers_are(self):
+        for named, people in ((1, 3), (1, 4), (1, 5), (2, 4), (2, 5), (3, 5)):
+            companies = every_company(people)
+            numbers = {view_numbers(named, company) for company in companies[::7]}
+            self.assertEqual(len(numbers), len(companies[::7]))
+
+    def test_view_numbers_of_greater_companies(self):
+        picker = Picker(29)
+        for named in (1, 2, 3):
+            for people in range(named + 2, 10):
+                company = pick_company(picker, people)
+                numbers = view_numbers(named, company)
+                self.assertEqual(company_of_views(named, people - named, numbers), company)
+                for order in list(permutations(range(named, people)))[:4]:
+                    other = part_of(named, company, order)
+                    self.assertEqual(view_numbers(named, other) == numbers, other == company)
+
+
+if __name__ == "__main__":
+    unittest.main()

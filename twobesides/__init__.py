@@ -1,0 +1,1 @@
+"""Twobesides: who knows whom, whatever the company."""

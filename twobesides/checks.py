@@ -1,0 +1,50 @@
+"""The checks of arguments: each raises the error of its argument, or does nothing."""
+
+from twobesides.errors import InvalidBesides, InvalidCompany, InvalidNamed, InvalidNumber, InvalidPerson
+from twobesides.errors import InvalidScript
+from twobesides.forms import MOST_NAMED, are_unlike_between, is_between, is_company_of, is_script_of
+
+
+def check_named(named):
+    """Refuse what is no number of named ones."""
+    if not is_between(named, 1, MOST_NAMED):
+        raise InvalidNamed("one to three people are named")
+
+
+def check_company(named, company):
+    """Refuse what is no number of named ones, or no company for it."""
+    check_named(named)
+    if not is_company_of(named, company):
+        raise InvalidCompany("this is no company for so many named ones")
+
+
+def check_script(named, script):
+    """Refuse what is no number of named ones, or no script for it."""
+    check_named(named)
+    if not is_script_of(named, script):
+        raise InvalidScript("this is no script for so many named ones")
+
+
+def check_person(company, person):
+    """Refuse who is not of the company."""
+    if not is_between(person, 0, company[0] - 1):
+        raise InvalidPerson("nobody in the company has this number")
+
+
+def check_other(company, person, other):
+    """Refuse who is not of the company, or the same person."""
+    check_person(company, other)
+    if person == other:
+        raise InvalidPerson("nobody is paired with themselves")
+
+
+def check_besides(named, company, besides):
+    """Refuse what is no tuple of unlike people besides."""
+    if not are_unlike_between(besides, named, company[0] - 1):
+        raise InvalidBesides("these are no unlike people besides")
+
+
+def check_number(number, least, most):
+    """Refuse what is no integer from one to another one."""
+    if not is_between(number, least, most):
+        raise InvalidNumber(f"this is no integer from {least} to {most}")
