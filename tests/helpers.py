@@ -268,3 +268,16 @@ def refuse_one(test, function, values, error):
     with test.assertRaises(error) as caught:
         function(*values)
     test.assertIs(type(caught.exception), error)
+
+
+def wrong_lots(named):
+    """Values that are no tuples of one to six scripts."""
+    good = (("pairs", 0, (0, 0, 0, 1, 1, 1)),)
+    wrong = [(script,) for script in wrong_scripts(named)] + [(good, (), script) for script in wrong_scripts(named)]
+    return [value for value in ANYTHING if value != ((),)] + wrong + [(), ((),) * 7, (good,) * 7, [good], good, (good, list(good))]
+
+
+def slow_companies_with_two_besides(named):
+    """All companies with at most two besides: fewer people first, then fewer ties, then in Python's order."""
+    companies = [company for people in range(named, named + 3) for company in every_company(people)]
+    return sorted(companies, key=lambda company: (company[0], len(company[1]), company[1]))

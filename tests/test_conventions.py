@@ -4,7 +4,8 @@ import inspect
 import unittest
 from copy import deepcopy
 
-from twobesides import companies, companyviews, doing, scripts, views
+from twobesides import alikes, closedrows, companies, companytexts, companyviews, doing, needless, onedeeds, opposites
+from twobesides import plaincompanies, scripts, views
 from twobesides.errors import BesidesError
 
 P = (4, ((0, 2), (1, 3)))
@@ -27,6 +28,28 @@ CALLS = [
     (companyviews.view_numbers, "named company", (2, P)),
     (companyviews.company_of_views, "named besides numbers", (1, 3, (2, 1, 4))),
     (companyviews.with_person, "named company people", (2, P, (0, 3))),
+    (plaincompanies.plain_company, "named company", (2, P)),
+    (plaincompanies.count_own_orders, "named company", (2, P)),
+    (plaincompanies.company_number, "named company", (2, P)),
+    (plaincompanies.company_at, "named people number", (2, 4, 18)),
+    (plaincompanies.count_unlike, "named besides", (2, 3)),
+    (opposites.opposite, "named company", (2, P)),
+    (opposites.opposite_script, "named script", (2, Q)),
+    (opposites.renamed_company, "named company order", (2, P, (1, 0))),
+    (opposites.renamed_script, "named script order", (2, Q, (1, 0))),
+    (companytexts.company_text, "named company", (2, P)),
+    (companytexts.script_text, "named script", (2, Q)),
+    (companytexts.read_company, "named text", (2, "4:0213")),
+    (companytexts.read_script, "named text", (2, "g010110?01[/k01]")),
+    (alikes.scripts_alike, "named script beside", (2, Q, ())),
+    (alikes.parting_company, "named script beside", (2, Q, ())),
+    (alikes.alike_classes, "named scripts", (2, (Q, (), Q))),
+    (needless.needless_items, "named script", (2, Q)),
+    (needless.spared_script, "named script", (2, Q)),
+    (needless.exchanged_items, "named script", (2, Q)),
+    (onedeeds.one_deed, "named script", (2, Q[:1])),
+    (closedrows.count_tables, "named scripts", (2, (Q, Q[:1]))),
+    (closedrows.least_way, "named scripts script", (2, (Q, Q[:1]), Q)),
 ]
 
 

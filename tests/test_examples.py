@@ -5,7 +5,10 @@ import unittest
 from importlib import import_module
 from pathlib import Path
 
-MODULES = {42: "companies", 43: "scripts", 44: "doing", 45: "views", 46: "companyviews"}
+MODULES = {
+    42: "companies", 43: "scripts", 44: "doing", 45: "views", 46: "companyviews", 47: "plaincompanies", 48: "opposites",
+    49: "companytexts", 50: "alikes", 51: "needless", 52: "onedeeds", 53: "closedrows",
+}
 
 
 def told_examples():

@@ -4,9 +4,12 @@ import unittest
 from itertools import permutations
 
 from tests.helpers import Picker, every_company, every_deed, pick_company, pick_script
+from twobesides.alikes import parting_company, scripts_alike
 from twobesides.companies import part_of
 from twobesides.companyviews import company_of_views, view_numbers, with_person
 from twobesides.doing import done
+from twobesides.needless import spared_script
+from twobesides.opposites import opposite, opposite_script, renamed_company, renamed_script
 from twobesides.scripts import deeds_done
 from twobesides.views import table_of, views_of
 
@@ -99,6 +102,69 @@ class ViewNumbers(unittest.TestCase):
                 for order in list(permutations(range(named, people)))[:4]:
                     other = part_of(named, company, order)
                     self.assertEqual(view_numbers(named, other) == numbers, other == company)
+
+
+class Opposites(unittest.TestCase):
+    def test_what_comes_of_the_opposite_by_the_opposite(self):
+        picker = Picker(54)
+        for named in (1, 2, 3):
+            for script in picked_scripts(55 + named, named, 60):
+                company = pick_company(picker, named + picker.below(10 - named))
+                behind = done(named, opposite(named, company), opposite_script(named, script))
+                self.assertEqual(behind, opposite(named, done(named, company, script)))
+
+    def test_what_comes_by_other_names(self):
+        picker = Picker(58)
+        for named in (1, 2, 3):
+            for order in permutations(range(named)):
+                for script in picked_scripts(59 + named, named, 30):
+                    company = pick_company(picker, named + picker.below(10 - named))
+                    behind = done(named, renamed_company(named, company, order), renamed_script(named, script, order))
+                    self.assertEqual(behind, renamed_company(named, done(named, company, script), order))
+
+    def test_each_deed_by_itself(self):
+        picker = Picker(62)
+        for named in (1, 2, 3):
+            for deed in every_deed(named):
+                company = pick_company(picker, named + 3)
+                behind = done(named, company, (deed,))
+                told = done(named, opposite(named, company), opposite_script(named, (deed,)))
+                self.assertEqual(told, opposite(named, behind))
+                order = picker.shuffled(range(named))
+                told = done(named, renamed_company(named, company, order), renamed_script(named, (deed,), order))
+                self.assertEqual(told, renamed_company(named, behind, order))
+
+
+class Alikes(unittest.TestCase):
+    def test_alike_just_if_the_tables_are_one(self):
+        for named, many in ((1, 40), (2, 25), (3, 6)):
+            scripts = picked_scripts(63 + named, named, many) + [()]
+            for one in scripts:
+                for other in scripts[::3]:
+                    alike = table_of(named, one) == table_of(named, other)
+                    self.assertIs(scripts_alike(named, one, other), alike)
+                    company = parting_company(named, one, other)
+                    self.assertIs(company is None, alike)
+                    if company is not None:
+                        self.assertLessEqual(company[0], named + 2)
+                        self.assertNotEqual(done(named, company, one), done(named, company, other))
+
+    def test_alike_scripts_may_stand_in_the_place_of_one_another(self):
+        picker = Picker(66)
+        found = 0
+        for named, many in ((1, 60), (2, 60), (3, 12)):
+            for _ in range(many):
+                script = pick_script(picker, named, 1 + picker.below(2), 1)
+                other = spared_script(named, script + script + script)
+                if not scripts_alike(named, script, other):
+                    continue
+                found += script != other
+                ahead, behind = pick_script(picker, named, 2, 0), pick_script(picker, named, 2, 0)
+                self.assertTrue(scripts_alike(named, ahead + script + behind, ahead + other + behind))
+                if named > 1:
+                    asked = [ahead + (("ask", 1, 0, some, behind),) for some in (script, other)]
+                    self.assertTrue(scripts_alike(named, asked[0], asked[1]))
+        self.assertGreater(found, 20)
 
 
 if __name__ == "__main__":

@@ -15,6 +15,10 @@ BARRED = """register mro elements open input law type enum Generic Protocol ABC 
     locals vars dir id help exit quit super""".split()
 
 
+# What a row assigns and never reads; running examples gives builtins this name, too.
+UNREAD = "_"
+
+
 def files():
     return sorted(FOLDER.glob("*.py"))
 
@@ -95,12 +99,13 @@ class Names(unittest.TestCase):
     def test_no_name_of_a_builtin_is_given_another_meaning(self):
         for name, tree in trees().items():
             for bound in bound_names(tree):
-                self.assertFalse(hasattr(builtins, bound) or bound in BARRED, f"{name}: {bound}")
+                self.assertNotIn(bound, BARRED, name)
+                self.assertTrue(bound == UNREAD or not hasattr(builtins, bound), f"{name}: {bound}")
 
     def test_builtins_that_are_used(self):
         for name, tree in trees().items():
             for node in ast.walk(tree):
-                if isinstance(node, ast.Name) and hasattr(builtins, node.id):
+                if isinstance(node, ast.Name) and node.id != UNREAD and hasattr(builtins, node.id):
                     self.assertIn(node.id, LET, f"{name}: {node.id}")
 
     def test_no_name_is_bound_twice_at_module_level(self):

@@ -1,8 +1,8 @@
 """The checks of arguments: each raises the error of its argument, or does nothing."""
 
 from twobesides.errors import InvalidBesides, InvalidCompany, InvalidNamed, InvalidNumber, InvalidPerson
-from twobesides.errors import InvalidScript
-from twobesides.forms import MOST_NAMED, are_unlike_between, is_between, is_company_of, is_script_of
+from twobesides.errors import InvalidScript, InvalidScripts
+from twobesides.forms import MOST_NAMED, are_unlike_between, is_between, is_company_of, is_lot_of_scripts, is_script_of
 
 
 def check_named(named):
@@ -48,3 +48,10 @@ def check_number(number, least, most):
     """Refuse what is no integer from one to another one."""
     if not is_between(number, least, most):
         raise InvalidNumber(f"this is no integer from {least} to {most}")
+
+
+def check_scripts(named, scripts):
+    """Refuse what is no number of named ones, or no lot of scripts for it."""
+    check_named(named)
+    if not is_lot_of_scripts(named, scripts):
+        raise InvalidScripts("these are no one to six scripts for so many named ones")

@@ -4,6 +4,7 @@ MOST_NAMED = 3
 MOST_PEOPLE = 9
 MOST_ITEMS = 30
 MOST_DEPTH = 4
+MOST_SCRIPTS = 6
 WORDS = ("know", "part", "turn")
 
 
@@ -118,3 +119,10 @@ def left_behind_item(named, item, depth, left):
 def is_script_of(named, value):
     """Return whether any value is a script for so many named ones."""
     return left_behind(named, value, MOST_DEPTH, MOST_ITEMS) >= 0
+
+
+def is_lot_of_scripts(named, value):
+    """Return whether any value is a tuple of one to six scripts."""
+    if not isinstance(value, tuple) or not 1 <= len(value) <= MOST_SCRIPTS:
+        return False
+    return all([is_script_of(named, script) for script in value])
