@@ -2,6 +2,7 @@
 
 import re
 import unittest
+from functools import lru_cache
 from itertools import combinations, product
 
 from tests.helpers import ANYTHING, Picker, deep_script, every_company, every_deed, pick_company, pick_script, refuse
@@ -12,6 +13,7 @@ from twobesides.errors import InvalidCompany, InvalidNamed, InvalidScript, Inval
 from twobesides.scripts import is_script
 
 SIGNS = {"know": "k", "part": "s", "turn": "u"}
+ALL_SIGNS = [chr(code) for code in range(ord(" "), ord("~") + 1)] + ["\n"]
 ENDS = ["".join(ends) for many in range(5) for ends in product(("]", "/]"), repeat=many)]
 
 FORMS = [(re.compile(form.replace(".", "([0-9])")), words) for form, words in (
@@ -19,6 +21,8 @@ FORMS = [(re.compile(form.replace(".", "([0-9])")), words) for form, words in (
     ("k..", r'("tie",\1,\2,"know"),'), ("s..", r'("tie",\1,\2,"part"),'), ("u..", r'("tie",\1,\2,"turn"),'),
     (r"\?..\[", r'("ask",\1,\2,('), ("/", "),("), ("]", ")),"),
 )]
+
+ROWS = re.compile(r"(p[0-9]{7}|g[0-9]{6}|[ksu][0-9]{2}|\?[0-9]{2}\[|/|\])*")
 
 
 def slow_company_text(company):
@@ -81,10 +85,11 @@ def begins_company(named, text):
 
 def begins_script(named, text):
     """Whether some text of a script begins so: what lacks is the rest of an item, and ends of choices."""
-    longer = [text + rest for rest in rests(named) if turned(text + rest) is not None]
+    longer = [text + rest for rest in rests(named) if ROWS.fullmatch(text + rest)]
     return any(whole_script(named, some + end) is not None for some in longer for end in ENDS)
 
 
+@lru_cache
 def rests(named):
     """All that can lack at the end of the text of a deed, or of the beginning of a choice."""
     words = ["p" + str(one) + "0" * 6 for one in range(named)]
@@ -121,6 +126,15 @@ class Refusing(unittest.TestCase):
         if at < len(text):
             self.assertFalse(begins(named, text[:at + 1]), (named, text, at))
 
+    def check_all_signs(self, named, text, whole, begins, read):
+        """Ask for each beginning of a text with each sign behind it: most are refused there."""
+        for at in range(len(text) + 1):
+            for longer in [text[:at] + sign for sign in ALL_SIGNS]:
+                if whole(named, longer) is not None:
+                    self.assertEqual(read(named, longer), whole(named, longer))
+                else:
+                    self.refused_at(read, named, longer, at + 1 if begins(named, longer) else at)
+
     def refused_at(self, read, named, text, at):
         with self.assertRaises(InvalidText) as caught:
             read(named, text)
@@ -151,6 +165,10 @@ class CompanyTexts(Refusing):
                 text = slow_company_text(pick_company(picker, people))[:24]
                 for changed in changed_texts(picker, text, "0123456789:x", 6):
                     self.check(named, changed, whole_company, begins_company, read_company)
+
+    def test_all_signs_at_each_place(self):
+        for named, text in ((1, "1:"), (1, "3:0102"), (2, "4:021323"), (3, "9:01126778")):
+            self.check_all_signs(named, text, whole_company, begins_company, read_company)
 
     def test_all_short_texts(self):
         for named in (1, 2, 3):
@@ -219,6 +237,21 @@ class ScriptTexts(Refusing):
             self.assertEqual(slow_script_text(read_script(named, text)), text)
             for changed in changed_texts(picker, text, "pgksu?[]/0123", 1):
                 self.check(named, changed, whole_script, begins_script, read_script)
+
+    def test_all_signs_at_each_place(self):
+        rows = [(1, "p0010110"), (2, "g010110?01[/k01]s10"), (3, "?20[?12[?01[?02[u21/]/]/]/]p2")]
+        for named, text in rows:
+            self.check_all_signs(named, text, whole_script, begins_script, read_script)
+
+    def test_all_signs_behind_thirty(self):
+        for named, text in ((1, "p0101010" * 30), (3, "?01[/]" * 30), (2, "k01" * 29 + "?01[/]")):
+            for sign in ALL_SIGNS:
+                self.refused_at(read_script, named, text + sign, len(text))
+        for sign in ALL_SIGNS:
+            if sign != "/":
+                self.refused_at(read_script, 2, "?01[" + "k01" * 29 + sign, 91)
+            if sign != "]":
+                self.refused_at(read_script, 2, "?01[/" + "k01" * 29 + sign, 92)
 
     def test_all_short_texts(self):
         for many in range(4):

@@ -23,8 +23,7 @@ def known_to(named, company, person):
     """Return the ascending tuple of the people who know a person."""
     check_company(named, company)
     check_person(company, person)
-    others = [other for other in range(company[0]) if other != person]
-    return tuple(other for other in others if pair_of(person, other) in company[1])
+    return tuple(other for other in range(company[0]) if pair_of(person, other) in company[1])
 
 
 def part_of(named, company, besides):

@@ -89,9 +89,9 @@ def is_asking(named, value):
 
 
 def left_behind(named, value, depth, left):
-    """Return how many of so many deeds and choices are left behind a script, with none for -1.
+    """Return how many of so many deeds and choices are left behind a script, which goes down to a depth.
 
-    It is -1 for what is no script, or goes deeper, or has more of them in all.
+    It is -1 for what is no such script, or has more of them in all; by -1 as what is left it stays so.
     """
     if not isinstance(value, tuple) or len(value) > left:
         return -1
@@ -99,8 +99,6 @@ def left_behind(named, value, depth, left):
     left = left - len(value)
     for item in value:
         left = left_behind_item(named, item, depth, left)
-        if left < 0:
-            return -1
     return left
 
 
@@ -111,8 +109,6 @@ def left_behind_item(named, item, depth, left):
     if depth == 0 or not is_asking(named, item):
         return -1
     left = left_behind(named, item[3], depth - 1, left)
-    if left < 0:
-        return -1
     return left_behind(named, item[4], depth - 1, left)
 
 
