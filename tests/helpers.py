@@ -1,6 +1,6 @@
 """What the tests share: a slow doing of their own, values picked by a rule, and wrong values."""
 
-from itertools import combinations
+from itertools import combinations, permutations
 
 from twobesides.errors import BesidesError, InvalidText, TooMany
 
@@ -270,14 +270,104 @@ def refuse_one(test, function, values, error):
     test.assertIs(type(caught.exception), error)
 
 
-def wrong_lots(named):
-    """Values that are no tuples of one to six scripts."""
+def wrong_lots(named, most=6):
+    """Values that are no tuples of one script to so many."""
     good = (("pairs", 0, (0, 0, 0, 1, 1, 1)),)
     wrong = [(script,) for script in wrong_scripts(named)] + [(good, (), script) for script in wrong_scripts(named)]
-    return [value for value in ANYTHING if value != ((),)] + wrong + [(), ((),) * 7, (good,) * 7, [good], good, (good, list(good))]
+    wrong += [(), ((),) * (most + 1), (good,) * (most + 1), [good], good, (good, list(good))]
+    return [value for value in ANYTHING if value != ((),)] + wrong
 
 
 def slow_companies_with_two_besides(named):
     """All companies with at most two besides: fewer people first, then fewer ties, then in Python's order."""
     companies = [company for people in range(named, named + 3) for company in every_company(people)]
     return sorted(companies, key=lambda company: (company[0], len(company[1]), company[1]))
+
+
+def most_small(named):
+    """How many people there are at most in a small company."""
+    return min(5, named + 3)
+
+
+def every_small(named):
+    """All small companies, in Python's order."""
+    return [company for people in range(named, most_small(named) + 1) for company in every_company(people)]
+
+
+def pick_lot(picker, named, many, companies=None):
+    """A lot of so many companies, or of fewer, as the same one may be picked twice."""
+    companies = every_small(named) if companies is None else companies
+    return tuple(sorted({picker.one_of(companies) for _ in range(many)}))
+
+
+def slow_copies(named, company):
+    return [slow_part(named, company, order) for order in permutations(range(named, company[0]))]
+
+
+def slow_places(named, company, small):
+    """All tuples of people besides for which the part of a company is a small one."""
+    tuples = permutations(range(named, company[0]), small[0] - named)
+    return [besides for besides in tuples if slow_part(named, company, besides) == small]
+
+
+def slow_clear(named, company, lot):
+    return not any(slow_places(named, company, small) for small in lot)
+
+
+def slow_least_form(named, lot):
+    """The least form of companies, by the words of [16]."""
+    least = set()
+    for company in lot:
+        fewer = [other for other in lot if other[0] < company[0]]
+        if slow_clear(named, company, fewer):
+            least.add(min(slow_copies(named, company)))
+    return tuple(sorted(least))
+
+
+def wrong_smalls(named):
+    """Values that are no small companies for so many named ones."""
+    most = most_small(named)
+    return wrong_companies(named) + [(most + 1, ()), (most + 1, ((0, 1),)), (9, ())]
+
+
+def wrong_barred_lots(named):
+    """Values that are no lots of small companies for so many named ones."""
+    one, other = (named + 1, ()), (named + 2, ((0, 1),))
+    wrong = [(small,) for small in wrong_smalls(named)] + [(one, small) for small in wrong_smalls(named)]
+    wrong += [(other, one), (one, one), (one, other, other), [one], [one, other], one, ((one,),), (one, [other[0], other[1]])]
+    if named > 1:
+        wrong.append(tuple(every_small(named)[:601]))
+    return [value for value in ANYTHING if value != ()] + wrong
+
+
+def wrong_numbers(most, least=0):
+    """Values that are no integers from one to another one."""
+    return ANYTHING + [least - 1, most + 1, most + 2, str(least), (least,), [least]]
+
+
+def pick_undone(picker, named, many):
+    """A script of so many deeds, each of which can be undone."""
+    items = []
+    for _ in range(many):
+        word = picker.one_of(("pairs", "takes", "tie")) if named > 1 else "pairs"
+        half = picker.answers(3 if word == "pairs" else 2)
+        answers = half + tuple(1 - answer for answer in half)
+        one, other = pick_two_named(picker, named) if named > 1 else (0, 0)
+        told = {"pairs": (word, one, answers), "takes": (word, one, other, answers), "tie": (word, one, other, "turn")}
+        items.append(told[word])
+    return tuple(items)
+
+
+def slow_round(company, script):
+    """The beginning and the round of a script for a company, by doing it again and again."""
+    seen = {}
+    while company not in seen:
+        seen[company] = len(seen)
+        company = slow_done(company, script)
+    return seen[company], len(seen) - seen[company]
+
+
+def slow_times(company, script, times):
+    for _ in range(times):
+        company = slow_done(company, script)
+    return company

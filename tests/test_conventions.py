@@ -4,12 +4,13 @@ import inspect
 import unittest
 from copy import deepcopy
 
-from twobesides import alikes, closedrows, companies, companytexts, companyviews, doing, needless, onedeeds, opposites
-from twobesides import plaincompanies, scripts, views
+from twobesides import alikes, barredahead, barredlots, closedrows, comings, companies, companytexts, companyviews, doing
+from twobesides import needless, onedeeds, onetoones, opposites, plaincompanies, roots, rounds, scripts, stayings, views
 from twobesides.errors import BesidesError
 
 P = (4, ((0, 2), (1, 3)))
 Q = (("takes", 0, 1, (0, 1, 1, 0)), ("ask", 0, 1, (), (("tie", 0, 1, "know"),)))
+LOT = ((3, ((0, 2), (1, 2))), (4, ((0, 1), (2, 3))))
 
 CALLS = [
     (companies.is_company, "named value", (2, P)),
@@ -50,6 +51,32 @@ CALLS = [
     (onedeeds.one_deed, "named script", (2, Q[:1])),
     (closedrows.count_tables, "named scripts", (2, (Q, Q[:1]))),
     (closedrows.least_way, "named scripts script", (2, (Q, Q[:1]), Q)),
+    (barredlots.is_barred_lot, "named value", (2, LOT)),
+    (barredlots.least_copy, "named small", (2, (4, ((0, 3), (1, 3))))),
+    (barredlots.held_at, "named company small", (2, P, (3, ((1, 2),)))),
+    (barredlots.is_clear, "named company lot", (2, P, LOT)),
+    (barredlots.least_lot, "named lot", (2, LOT)),
+    (barredlots.are_lots_alike, "named lot mate", (2, LOT, LOT[1:])),
+    (barredlots.clear_apart, "named lot mate", (2, LOT, LOT[:1])),
+    (barredlots.count_clear, "named lot people", (2, LOT, 4)),
+    (barredahead.lot_ahead, "named script lot", (2, Q, LOT)),
+    (barredahead.does_lead, "named script lot mate", (2, Q, LOT, LOT[1:])),
+    (barredahead.company_fallen, "named script lot mate", (2, Q, LOT, LOT[:1])),
+    (barredahead.shut_lot, "named stock lot", (2, (Q, Q[:1]), LOT)),
+    (barredahead.led_from, "named script small", (2, Q[:1], P)),
+    (onetoones.is_one_to_one, "named script", (2, Q)),
+    (onetoones.least_twins, "named script", (2, Q)),
+    (onetoones.undoing_table, "named script", (2, Q[:1])),
+    (onetoones.undoing_times, "named script", (2, Q[:1])),
+    (rounds.coming_round, "named script", (2, Q)),
+    (rounds.company_round, "named company script", (2, P, Q)),
+    (rounds.done_times, "named company script times", (2, P, Q, 5)),
+    (rounds.table_times, "named script times", (2, Q, 5)),
+    (roots.times_to, "named script other_script", (2, Q, Q[:1])),
+    (comings.company_ahead, "named company script", (2, P, Q[:1])),
+    (comings.count_ahead, "named company script", (2, P, Q)),
+    (stayings.count_staying, "named script besides", (2, Q, 3)),
+    (stayings.count_coming_back, "named script times besides", (2, Q, 5, 3)),
 ]
 
 
@@ -90,15 +117,15 @@ class Conventions(unittest.TestCase):
                 self.assertIsNot(function(*values), function(*values))
 
     def test_lists_in_the_place_of_tuples(self):
-        for function, _, values in CALLS:
+        for function, names, values in CALLS:
             for at, value in enumerate(values):
                 if isinstance(value, tuple):
                     for wrong in [with_lists(value)] + lists_in_turn(value):
-                        self.refused_and_left(function, values[:at] + (wrong,) + values[at + 1:])
+                        self.refused_and_left(function, names.split()[at], values[:at] + (wrong,) + values[at + 1:])
 
-    def refused_and_left(self, function, values):
+    def refused_and_left(self, function, name, values):
         before = deepcopy(values)
-        if function.__name__.startswith("is_"):
+        if name == "value":
             self.assertIs(function(*values), False)
         else:
             with self.assertRaises(BesidesError):
@@ -106,12 +133,10 @@ class Conventions(unittest.TestCase):
         self.assertEqual(values, before)
 
     def test_booleans_in_the_place_of_integers(self):
-        for function, _, values in CALLS:
-            for wrong in self.booleans_in_turn(values[0]):
-                self.assertRaises(BesidesError, function, wrong, *values[1:])
-            for at, value in enumerate(values[1:], 1):
+        for function, names, values in CALLS:
+            for at, value in enumerate(values):
                 for wrong in self.booleans_in_turn(value):
-                    self.refused_and_left(function, values[:at] + (wrong,) + values[at + 1:])
+                    self.refused_and_left(function, names.split()[at], values[:at] + (wrong,) + values[at + 1:])
 
     def booleans_in_turn(self, value):
         """The values that have a boolean, equal to it where one is, in the place of one integer."""

@@ -3,13 +3,18 @@
 import unittest
 from itertools import permutations
 
-from tests.helpers import Picker, every_company, every_deed, pick_company, pick_script
+from tests.helpers import Picker, every_company, every_deed, every_small, pick_company, pick_lot, pick_script, pick_undone
+from tests.helpers import slow_clear, slow_times
 from twobesides.alikes import parting_company, scripts_alike
+from twobesides.barredahead import does_lead, lot_ahead
+from twobesides.barredlots import are_lots_alike, is_clear, least_lot
 from twobesides.companies import part_of
 from twobesides.companyviews import company_of_views, view_numbers, with_person
 from twobesides.doing import done
 from twobesides.needless import spared_script
+from twobesides.onetoones import is_one_to_one, undoing_times
 from twobesides.opposites import opposite, opposite_script, renamed_company, renamed_script
+from twobesides.rounds import coming_round, done_times, table_times
 from twobesides.scripts import deeds_done
 from twobesides.views import table_of, views_of
 
@@ -165,6 +170,86 @@ class Alikes(unittest.TestCase):
                     asked = [ahead + (("ask", 1, 0, some, behind),) for some in (script, other)]
                     self.assertTrue(scripts_alike(named, asked[0], asked[1]))
         self.assertGreater(found, 20)
+
+
+class Barred(unittest.TestCase):
+    def picked_lots(self, seed, named, many):
+        picker = Picker(seed)
+        few = [company for company in every_small(named) if company[0] <= named + 2]
+        return [pick_lot(picker, named, picker.below(4), few) for _ in range(many)]
+
+    def test_clear_behind_just_if_clear_of_the_lot_ahead(self):
+        picker = Picker(140)
+        told = []
+        for named in (1, 2, 3):
+            for lot in self.picked_lots(141 + named, named, 20):
+                script = pick_script(picker, named, 1 + picker.below(3), 1)
+                company = pick_company(picker, min(9, named + 1 + picker.below(6)))
+                told.append(is_clear(named, done(named, company, script), lot))
+                self.assertIs(is_clear(named, company, lot_ahead(named, script, lot)), told[-1])
+                self.assertIs(slow_clear(named, done(named, company, script), lot), told[-1])
+        self.assertGreater(min(told.count(True), told.count(False)), 8)
+
+    def test_leading_is_seen_at_as_many_people_as_the_other_lot_has(self):
+        picker = Picker(145)
+        told = []
+        for named in (1, 2):
+            lots = self.picked_lots(146 + named, named, 16)
+            for lot, mate in zip(lots, lots[1:]):
+                script = pick_script(picker, named, 1 + picker.below(2), 1)
+                leads = True
+                for company in [company for people in {small[0] for small in mate} for company in every_company(people)]:
+                    if slow_clear(named, company, lot) and not slow_clear(named, done(named, company, script), mate):
+                        leads = False
+                told.append(leads)
+                self.assertIs(does_lead(named, script, lot, mate), leads)
+        self.assertGreater(min(told.count(True), told.count(False)), 4)
+
+    def test_alike_just_if_the_least_forms_are(self):
+        for named in (1, 2, 3):
+            lots = self.picked_lots(149 + named, named, 10)
+            companies = [company for people in range(named, named + 3) for company in every_company(people)[::5]]
+            for lot in lots:
+                for mate in lots + [least_lot(named, lot)]:
+                    same = least_lot(named, lot) == least_lot(named, mate)
+                    self.assertIs(are_lots_alike(named, lot, mate), same)
+                    if same:
+                        clear = [is_clear(named, company, lot) for company in companies]
+                        self.assertEqual(clear, [is_clear(named, company, mate) for company in companies])
+
+
+class AgainAndAgain(unittest.TestCase):
+    def picked(self, seed):
+        picker = Picker(seed)
+        for named, many in ((1, 30), (2, 30), (3, 10)):
+            for _ in range(many):
+                yield named, pick_script(picker, named, picker.below(4), 1), pick_company(picker, 9 - picker.below(4))
+                yield named, pick_undone(picker, named, 1 + picker.below(4)), pick_company(picker, 9 - picker.below(4))
+
+    def test_one_to_one_just_if_no_two_views_come_to_one(self):
+        for named, script, company in self.picked(153):
+            table = table_of(named, script)
+            self.assertIs(is_one_to_one(named, script), len(set(table)) == len(table))
+            beginning, whole = coming_round(named, script)
+            self.assertIs(beginning == 0, is_one_to_one(named, script))
+            if is_one_to_one(named, script):
+                self.assertEqual(undoing_times(named, script), whole - 1)
+                behind = done(named, company, script)
+                self.assertEqual(done_times(named, behind, script, whole - 1), company)
+                if whole < 30:
+                    self.assertEqual(slow_times(behind, script, whole - 1), company)
+
+    def test_the_round_of_a_script_is_that_of_its_table(self):
+        for named, script, company in self.picked(154):
+            beginning, whole = coming_round(named, script)
+            table = table_times(named, script, beginning)
+            self.assertEqual(table_times(named, script, beginning + whole), table)
+            self.assertEqual(done_times(named, company, script, beginning + whole), done_times(named, company, script, beginning))
+            if beginning > 0:
+                ahead = table_times(named, script, beginning - 1)
+                self.assertNotEqual(table_times(named, script, beginning - 1 + whole), ahead)
+            for fewer in [number for number in range(1, min(whole, 60)) if whole % number == 0]:
+                self.assertNotEqual(table_times(named, script, beginning + fewer), table)
 
 
 if __name__ == "__main__":

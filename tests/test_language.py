@@ -125,12 +125,26 @@ class Names(unittest.TestCase):
 
 class Expressions(unittest.TestCase):
     def test_nothing_that_is_not_let(self):
-        barred = (ast.Global, ast.Try, ast.Div, ast.AsyncFunctionDef, ast.Await, ast.Pow)
+        barred = (ast.Global, ast.Try, ast.Div, ast.AsyncFunctionDef, ast.Await)
         for name, tree in trees().items():
             for node in ast.walk(tree):
                 self.assertNotIsInstance(node, barred, f"{name}: {getattr(node, 'lineno', '')}")
                 if isinstance(node, ast.Constant):
                     self.assertNotIsInstance(node.value, float, name)
+
+    def test_exponents_are_literals(self):
+        for name, tree in trees().items():
+            for node in ast.walk(tree):
+                if isinstance(node, ast.BinOp) and isinstance(node.op, ast.Pow):
+                    self.assertIsInstance(node.right, ast.Constant, f"{name}: {node.lineno}")
+                    self.assertIn(node.right.value, range(65), f"{name}: {node.lineno}")
+
+    def test_no_set_is_iterated_kept_or_passed_on(self):
+        for name, tree in trees().items():
+            inside = [node.args[0] for node in ast.walk(tree) if self.is_call_of(node, ("sorted", "len"))]
+            for node in ast.walk(tree):
+                if isinstance(node, ast.SetComp) or self.is_call_of(node, ("set", "frozenset")):
+                    self.assertIn(node, inside, f"{name}: {node.lineno}")
 
     def test_generator_expressions_stand_in_tuples_alone(self):
         for name, tree in trees().items():

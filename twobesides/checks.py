@@ -1,14 +1,21 @@
 """The checks of arguments: each raises the error of its argument, or does nothing."""
 
-from twobesides.errors import InvalidBesides, InvalidCompany, InvalidNamed, InvalidNumber, InvalidPerson
-from twobesides.errors import InvalidScript, InvalidScripts
-from twobesides.forms import MOST_NAMED, are_unlike_between, is_between, is_company_of, is_lot_of_scripts, is_script_of
+from twobesides.errors import InvalidBesides, InvalidCompany, InvalidLot, InvalidNamed, InvalidNumber, InvalidPerson
+from twobesides.errors import InvalidScript, InvalidScripts, TooMany
+from twobesides.forms import MOST_NAMED, MOST_PEOPLE, MOST_SCRIPTS, MOST_TIMES, are_scripts_of, are_unlike_between
+from twobesides.forms import is_between, is_company_of, is_lot_of, is_script_of, is_small_of
 
 
 def check_named(named):
     """Refuse what is no number of named ones."""
     if not is_between(named, 1, MOST_NAMED):
         raise InvalidNamed("one to three people are named")
+
+
+def check_few_named(named):
+    """Refuse what is not one or two named ones."""
+    if not is_between(named, 1, 2):
+        raise InvalidNamed("one or two people are named here")
 
 
 def check_company(named, company):
@@ -53,5 +60,35 @@ def check_number(number, least, most):
 def check_scripts(named, scripts):
     """Refuse what is no number of named ones, or no lot of scripts for it."""
     check_named(named)
-    if not is_lot_of_scripts(named, scripts):
+    if not are_scripts_of(named, scripts, MOST_SCRIPTS):
         raise InvalidScripts("these are no one to six scripts for so many named ones")
+
+
+def check_small(named, small):
+    """Refuse what is no number of named ones, or no small company for it."""
+    check_named(named)
+    if not is_small_of(named, small):
+        raise InvalidCompany("this is no small company for so many named ones")
+
+
+def check_lot(named, lot):
+    """Refuse what is no number of named ones, or no lot of small companies for it."""
+    check_named(named)
+    if not is_lot_of(named, lot):
+        raise InvalidLot("this is no lot of small companies for so many named ones")
+
+
+def check_times(times):
+    """Refuse what is no number of times."""
+    check_number(times, 0, MOST_TIMES)
+
+
+def check_many_besides(named, besides):
+    """Refuse what is no number of people besides."""
+    check_number(besides, 0, MOST_PEOPLE - named)
+
+
+def check_few_besides(named, company, most):
+    """Refuse a company with more people besides than so many."""
+    if company[0] - named > most:
+        raise TooMany(most)

@@ -1,17 +1,10 @@
 """The tables that come by rows of told scripts, in any order and again and again."""
 
-from twobesides.checks import check_script, check_scripts
-from twobesides.errors import InvalidNamed, TooMany
-from twobesides.forms import is_between
+from twobesides.checks import check_few_named, check_script, check_scripts
+from twobesides.errors import TooMany
 from twobesides.tables import joined, own_table, script_tables
 
 MOST_TABLES = 500
-
-
-def check_few_named(named):
-    """Refuse what is not one or two named ones."""
-    if not is_between(named, 1, 2):
-        raise InvalidNamed("one or two people are named here")
 
 
 def count_tables(named, scripts):

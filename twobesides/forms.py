@@ -5,6 +5,10 @@ MOST_PEOPLE = 9
 MOST_ITEMS = 30
 MOST_DEPTH = 4
 MOST_SCRIPTS = 6
+MOST_SMALL = 5
+MOST_SMALL_BESIDES = 3
+MOST_BARRED = 600
+MOST_TIMES = 10 ** 30
 WORDS = ("know", "part", "turn")
 
 
@@ -117,8 +121,25 @@ def is_script_of(named, value):
     return left_behind(named, value, MOST_DEPTH, MOST_ITEMS) >= 0
 
 
-def is_lot_of_scripts(named, value):
-    """Return whether any value is a tuple of one to six scripts."""
-    if not isinstance(value, tuple) or not 1 <= len(value) <= MOST_SCRIPTS:
+def are_scripts_of(named, value, most):
+    """Return whether any value is a tuple of one script to so many."""
+    if not isinstance(value, tuple) or not 1 <= len(value) <= most:
         return False
     return all([is_script_of(named, script) for script in value])
+
+
+def most_small(named):
+    """Return how many people there are at most in a small company."""
+    return min(MOST_SMALL, named + MOST_SMALL_BESIDES)
+
+
+def is_small_of(named, value):
+    """Return whether any value is a small company for so many named ones."""
+    return is_company_of(named, value) and value[0] <= most_small(named)
+
+
+def is_lot_of(named, value):
+    """Return whether any value is an ascending tuple of small companies, not too many."""
+    if not isinstance(value, tuple) or len(value) > MOST_BARRED:
+        return False
+    return all([is_small_of(named, small) for small in value]) and is_ascending(value)

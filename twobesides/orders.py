@@ -2,16 +2,24 @@
 
 from math import factorial
 
+from twobesides.ties import part_for
 
-def orders_of(things):
-    """Return the list of all orders of a tuple of unlike things, as tuples."""
-    if len(things) == 0:
+
+def orders_of(things, many):
+    """Return the list of all tuples of so many unlike ones of a tuple of things, those with earlier things first."""
+    if many == 0:
         return [()]
     orders = []
     for index, thing in enumerate(things):
         others = things[:index] + things[index + 1:]
-        orders = orders + [(thing,) + order for order in orders_of(others)]
+        orders = orders + [(thing,) + order for order in orders_of(others, many - 1)]
     return orders
+
+
+def in_all_orders(named, company):
+    """Return the list of a company in each order of its people besides."""
+    besides = tuple(range(named, company[0]))
+    return [part_for(named, company, order) for order in orders_of(besides, len(besides))]
 
 
 def sums_to(whole, most):

@@ -2,39 +2,26 @@
 
 from math import factorial, gcd
 
-from twobesides.checks import check_company, check_named, check_number
-from twobesides.errors import TooMany
+from twobesides.checks import check_company, check_few_besides, check_named, check_number
 from twobesides.forms import MOST_PEOPLE
-from twobesides.orders import count_orders, orders_of, sums_to
-from twobesides.ties import pairs_of, part_for
+from twobesides.orders import count_orders, in_all_orders, sums_to
+from twobesides.ties import pairs_of
 
 MOST_ORDERED = 5
 MOST_COUNTED = 20
 
 
-def check_few_besides(named, company):
-    """Refuse a company with too many people besides for all their orders."""
-    if company[0] - named > MOST_ORDERED:
-        raise TooMany(MOST_ORDERED)
-
-
-def in_all_orders(named, company):
-    """Return the list of a company in each order of its people besides."""
-    orders = orders_of(tuple(range(named, company[0])))
-    return [part_for(named, company, order) for order in orders]
-
-
 def plain_company(named, company):
     """Return the plain company of a company."""
     check_company(named, company)
-    check_few_besides(named, company)
+    check_few_besides(named, company, MOST_ORDERED)
     return min(in_all_orders(named, company))
 
 
 def count_own_orders(named, company):
     """Return in how many orders of its people besides a company is itself."""
     check_company(named, company)
-    check_few_besides(named, company)
+    check_few_besides(named, company, MOST_ORDERED)
     return in_all_orders(named, company).count(company)
 
 

@@ -1,18 +1,23 @@
-"""Tables of scripts over all views."""
+"""Tables of scripts: what comes of each of many companies, by their numbers."""
 
 from twobesides.bundles import bundle_of, company_in, items_done
 from twobesides.ties import all_companies
 
 
 def script_tables(named, scripts):
-    """Return the list of the tables of scripts."""
-    views = all_companies(named + 2)
-    numbers = {view: number for number, view in enumerate(views)}
-    ahead = bundle_of(views)
+    """Return the list of the tables of scripts, over all views."""
+    return people_tables(named + 2, scripts)
+
+
+def people_tables(people, scripts):
+    """Return the list of the tables of scripts over all companies of so many people."""
+    companies = all_companies(people)
+    numbers = {company: number for number, company in enumerate(companies)}
+    ahead = bundle_of(companies)
     tables = []
     for script in scripts:
         behind = items_done(ahead, script)
-        tables.append(tuple(numbers[company_in(behind, index)] for index in range(len(views))))
+        tables.append(tuple(numbers[company_in(behind, index)] for index in range(len(companies))))
     return tables
 
 
