@@ -371,3 +371,40 @@ def slow_times(company, script, times):
     for _ in range(times):
         company = slow_done(company, script)
     return company
+
+
+def wrong_goals(named, people):
+    """Values that are no companies of so many people."""
+    others = [(many, ()) for many in range(named, 11) if many != people]
+    return wrong_companies(named) + others + [(people, ((0, people),)), [people, ()], (people, []), ((people, ()),)]
+
+
+def slow_led(company, stock):
+    """The companies that come of one, as they are met."""
+    met = [company]
+    for one in met:
+        for script in stock:
+            behind = slow_done(one, script)
+            if behind not in met:
+                met.append(behind)
+    return met
+
+
+def slow_arrows(companies, stock):
+    """Where each script of a stock leads each of the companies."""
+    return {company: [slow_done(company, script) for script in stock] for company in companies}
+
+
+def pick_stock(picker, named, many):
+    """So many short scripts, some of which can be undone."""
+    stock = []
+    for _ in range(many):
+        length = 1 + picker.below(2)
+        stock.append(pick_undone(picker, named, length) if picker.below(2) else pick_script(picker, named, length, 1))
+    return tuple(stock)
+
+
+def put_first(ways):
+    """The least one of ways, or None: fewer indices come first, then Python's order."""
+    return min(ways, key=lambda way: (len(way), way), default=None)
+

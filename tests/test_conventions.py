@@ -4,13 +4,15 @@ import inspect
 import unittest
 from copy import deepcopy
 
-from twobesides import alikes, barredahead, barredlots, closedrows, comings, companies, companytexts, companyviews, doing
-from twobesides import needless, onedeeds, onetoones, opposites, plaincompanies, roots, rounds, scripts, stayings, views
+from twobesides import alikes, arms, barredahead, barredlots, closedrows, comings, companies, companytexts, companyviews
+from twobesides import doing, forgetting, jointways, leadings, needless, onedeeds, onetoones, opposites, plaincompanies
+from twobesides import roots, rounds, scripts, starts, stayings, twins, views, wishes
 from twobesides.errors import BesidesError
 
 P = (4, ((0, 2), (1, 3)))
 Q = (("takes", 0, 1, (0, 1, 1, 0)), ("ask", 0, 1, (), (("tie", 0, 1, "know"),)))
 LOT = ((3, ((0, 2), (1, 2))), (4, ((0, 1), (2, 3))))
+WISH = (1, 2, 4, 8, 18)
 
 CALLS = [
     (companies.is_company, "named value", (2, P)),
@@ -77,6 +79,22 @@ CALLS = [
     (comings.count_ahead, "named company script", (2, P, Q)),
     (stayings.count_staying, "named script besides", (2, Q, 3)),
     (stayings.count_coming_back, "named script times besides", (2, Q, 5, 3)),
+    (leadings.companies_led, "named company stock", (2, P, (Q, Q[:1]))),
+    (leadings.count_ways, "named company goal stock many", (2, P, LOT[1], (Q, Q[:1]), 5)),
+    (leadings.way_but_names, "named company goal stock", (2, P, LOT[1], (Q, Q[:1]))),
+    (jointways.joint_way, "named pairs stock", (2, ((P, P), (LOT[0], LOT[0])), (Q, Q[:1]))),
+    (twins.twins_of, "named company", (2, P)),
+    (twins.torn_twins, "named company goal", (2, (4, ()), P)),
+    (forgetting.lasting_pair, "named stock", (2, (Q, Q[:1]))),
+    (forgetting.forgetting_way, "named stock", (2, (Q, Q[:1]))),
+    (wishes.turned_view, "named number", (2, 5)),
+    (wishes.bringing_way, "named stock wish", (2, (Q, Q[:1]), WISH)),
+    (wishes.brought_views, "named stock wish", (2, (Q, Q[:1]), WISH)),
+    (starts.starts_of, "named", (2,)),
+    (starts.start_number, "named company", (2, P)),
+    (starts.drawn_rows, "named script", (2, Q)),
+    (arms.arms_met, "named script", (2, Q)),
+    (arms.idle_choices, "named script", (2, Q)),
 ]
 
 

@@ -9,7 +9,7 @@ MODULES = {
     42: "companies", 43: "scripts", 44: "doing", 45: "views", 46: "companyviews", 47: "plaincompanies", 48: "opposites",
     49: "companytexts", 50: "alikes", 51: "needless", 52: "onedeeds", 53: "closedrows", 54: "barredlots",
     55: "barredlots", 56: "barredahead", 57: "barredahead", 58: "onetoones", 59: "rounds", 60: "roots", 61: "comings",
-    62: "stayings",
+    62: "stayings", 63: "leadings", 64: "jointways", 65: "twins", 66: "forgetting", 67: "wishes", 68: "starts", 69: "arms",
 }
 
 

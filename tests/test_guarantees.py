@@ -1,22 +1,27 @@
 """Point 3: what holds for all companies and scripts, at many that are worked out here."""
 
 import unittest
-from itertools import permutations
+from itertools import combinations, permutations
 
-from tests.helpers import Picker, every_company, every_deed, every_small, pick_company, pick_lot, pick_script, pick_undone
-from tests.helpers import slow_clear, slow_times
+from tests.helpers import Picker, every_company, every_deed, every_small, pick_company, pick_lot, pick_script, pick_stock
+from tests.helpers import pick_undone, slow_clear, slow_times
 from twobesides.alikes import parting_company, scripts_alike
 from twobesides.barredahead import does_lead, lot_ahead
 from twobesides.barredlots import are_lots_alike, is_clear, least_lot
 from twobesides.companies import part_of
 from twobesides.companyviews import company_of_views, view_numbers, with_person
 from twobesides.doing import done
+from twobesides.forgetting import forgetting_way, lasting_pair
+from twobesides.leadings import companies_led
 from twobesides.needless import spared_script
 from twobesides.onetoones import is_one_to_one, undoing_times
 from twobesides.opposites import opposite, opposite_script, renamed_company, renamed_script
 from twobesides.rounds import coming_round, done_times, table_times
 from twobesides.scripts import deeds_done
-from twobesides.views import table_of, views_of
+from twobesides.starts import drawn_rows, start_number
+from twobesides.twins import torn_twins, twins_of
+from twobesides.views import table_of, view_number, views_of
+from twobesides.wishes import bringing_way, turned_view
 
 
 def picked_scripts(seed, named, many):
@@ -55,6 +60,7 @@ class Parts(unittest.TestCase):
                     start = part_of(named, company, ())
                     self.assertEqual(told.setdefault(start, deeds), deeds)
                     self.assertEqual(deeds_done(named, start, script), deeds)
+                    self.assertEqual(drawn_rows(named, script)[start_number(named, company)], tuple(deeds))
 
 
 class Tables(unittest.TestCase):
@@ -250,6 +256,77 @@ class AgainAndAgain(unittest.TestCase):
                 self.assertNotEqual(table_times(named, script, beginning - 1 + whole), ahead)
             for fewer in [number for number in range(1, min(whole, 60)) if whole % number == 0]:
                 self.assertNotEqual(table_times(named, script, beginning + fewer), table)
+
+
+def led(named, company, stock, way):
+    for index in way:
+        company = done(named, company, stock[index])
+    return company
+
+
+class Ways(unittest.TestCase):
+    def forgetful(self, seed, many):
+        """Stocks of two named ones, in many of which some way makes all views one."""
+        picker = Picker(seed)
+        forget = (("takes", 0, 1, (0, 0, 0, 0)), ("tie", 0, 1, "part"), ("pairs", 0, (0, 0, 0, 0, 0, 0)))
+        for _ in range(many):
+            stock = [picker.shuffled(forget)[picker.below(2):] + pick_script(picker, 2, picker.below(2), 1) for _ in range(3)]
+            yield picker, tuple(stock)
+
+    def test_twins_stay_twins(self):
+        picker = Picker(270)
+        found = 0
+        for named in (1, 2, 3):
+            for _ in range(60):
+                company = pick_company(picker, named + 2 + picker.below(3))
+                script = pick_script(picker, named, 1 + picker.below(3))
+                behind = done(named, company, script)
+                found += len(twins_of(named, company)) < company[0] - named
+                self.assertIsNone(torn_twins(named, company, behind))
+                for group in twins_of(named, company):
+                    self.assertTrue(any(set(group) <= set(other) for other in twins_of(named, behind)))
+        self.assertGreater(found, 20)
+
+    def test_twins_stay_twins_by_all_ways(self):
+        for named in (1, 2, 3):
+            company = (named + 3, ((0, named), (0, named + 1)))
+            for other in companies_led(named, company, pick_stock(Picker(271), named, 2)):
+                self.assertIsNone(torn_twins(named, company, other))
+
+    def test_all_companies_become_one_just_if_all_views_do(self):
+        told = []
+        for picker, stock in self.forgetful(272, 140):
+            way = forgetting_way(2, stock)
+            self.assertIs(way is None, lasting_pair(2, stock) is not None)
+            for some in [way or (0, 1)] + [picker.shuffled(range(3))[:2] for _ in range(2)]:
+                views = {led(2, view, stock, some) for view in views_of(2)}
+                told.append(len(views) == 1)
+                for people in (2, 3, 4):
+                    companies = {led(2, company, stock, some) for company in every_company(people)}
+                    if people == 4 or len(views) == 1:
+                        self.assertIs(len(companies) == 1, len(views) == 1)
+                companies = {led(2, pick_company(picker, 7), stock, some) for _ in range(30)}
+                if len(views) == 1:
+                    self.assertEqual(len(companies), 1)
+            if way is not None:
+                self.assertTrue(told[-3])
+        self.assertGreater(min(told.count(True), told.count(False)), 20)
+
+    def test_all_parts_are_of_the_wish_just_if_all_views_are_led_into_it(self):
+        told = []
+        for picker, stock in self.forgetful(273, 40):
+            some = [picker.below(64) for _ in range(6)] + [0, 1, 2]
+            wish = tuple(sorted(set(some) | {turned_view(2, number) for number in some}))
+            least = bringing_way(2, stock, wish)
+            for way in [least or ()] + [picker.shuffled(range(3))[:picker.below(4)] for _ in range(3)]:
+                within = all(view_number(2, led(2, view, stock, way)) in wish for view in views_of(2))
+                parts = [part_of(2, led(2, pick_company(picker, 6), stock, way), pair) for pair in combinations(range(2, 6), 2)]
+                if within:
+                    self.assertTrue(all(view_number(2, part) in wish for part in parts))
+                told.append(within)
+            if least is not None:
+                self.assertTrue(told[-4])
+        self.assertGreater(min(told.count(True), told.count(False)), 20)
 
 
 if __name__ == "__main__":

@@ -69,6 +69,20 @@ class TimesTo(unittest.TestCase):
         self.assertEqual(times_to(2, (turn, flip), (flip, turn)), 1)
         self.assertEqual(times_to(2, (turn, flip), ()), 0)
 
+    def test_no_common_number_of_times_for_all_companies_at_once(self):
+        # Two whom nobody knows need an odd number of times, two whom the doer knows an even one.
+        both, one = ("pairs", 0, (1, 0, 1, 0, 1, 0)), ("pairs", 0, (1, 0, 0, 0, 1, 1))
+        for named in (1, 2, 3):
+            self.assertIsNone(times_to(named, (both,), (one,)))
+            self.assertEqual(times_to(named, (both,), (both,) * 3), 1)
+            self.assertEqual(times_to(named, (both,), (one, one)), 0)
+        circle = (("takes", 0, 1, (0, 1, 1, 0)), ("takes", 1, 0, (0, 1, 1, 0)))
+        self.assertIsNone(times_to(2, (("ask", 0, 1, (both,), circle),), (("ask", 0, 1, (one,), circle),)))
+        self.assertIsNone(times_to(2, (("ask", 0, 1, circle, (both,)),), (("ask", 0, 1, circle, (one,)),)))
+        # An odd number of times for one start, two of three for the other one.
+        self.assertEqual(times_to(2, (("ask", 0, 1, (both,), circle),), (("ask", 0, 1, (both,), circle * 2),)), 5)
+        self.assertEqual(times_to(2, (("ask", 0, 1, circle, (both,)),), (("ask", 0, 1, circle, ()),)), 4)
+
     def test_ahead_of_the_round(self):
         for named, script, (beginning, _) in told_scripts():
             if beginning > 0:

@@ -1,7 +1,7 @@
 """The checks of arguments: each raises the error of its argument, or does nothing."""
 
-from twobesides.errors import InvalidBesides, InvalidCompany, InvalidLot, InvalidNamed, InvalidNumber, InvalidPerson
-from twobesides.errors import InvalidScript, InvalidScripts, TooMany
+from twobesides.errors import InvalidBesides, InvalidCompany, InvalidGoal, InvalidLot, InvalidNamed, InvalidNumber
+from twobesides.errors import InvalidPerson, InvalidScript, InvalidScripts, InvalidStock, TooMany
 from twobesides.forms import MOST_NAMED, MOST_PEOPLE, MOST_SCRIPTS, MOST_TIMES, are_scripts_of, are_unlike_between
 from twobesides.forms import is_between, is_company_of, is_lot_of, is_script_of, is_small_of
 
@@ -62,6 +62,19 @@ def check_scripts(named, scripts):
     check_named(named)
     if not are_scripts_of(named, scripts, MOST_SCRIPTS):
         raise InvalidScripts("these are no one to six scripts for so many named ones")
+
+
+def check_stock(named, stock):
+    """Refuse what is no number of named ones, or no stock of one to six scripts for it."""
+    check_named(named)
+    if not are_scripts_of(named, stock, MOST_SCRIPTS):
+        raise InvalidStock("these are no one to six scripts for so many named ones")
+
+
+def check_goal(named, company, goal):
+    """Refuse what is no company with as many people as a company."""
+    if not is_company_of(named, goal) or goal[0] != company[0]:
+        raise InvalidGoal("this is no company with as many people")
 
 
 def check_small(named, small):

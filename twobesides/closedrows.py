@@ -3,6 +3,7 @@
 from twobesides.checks import check_few_named, check_script, check_scripts
 from twobesides.errors import TooMany
 from twobesides.tables import joined, own_table, script_tables
+from twobesides.ways import least_ways
 
 MOST_TABLES = 500
 
@@ -11,7 +12,7 @@ def count_tables(named, scripts):
     """Return how many unlike tables the scripts of all ways of a lot have."""
     check_few_named(named)
     check_scripts(named, scripts)
-    return len(least_ways(named, scripts))
+    return len(ways_to_tables(named, scripts))
 
 
 def least_way(named, scripts, script):
@@ -19,26 +20,13 @@ def least_way(named, scripts, script):
     check_few_named(named)
     check_scripts(named, scripts)
     check_script(named, script)
-    ways = least_ways(named, scripts)
+    ways = ways_to_tables(named, scripts)
     return ways.get(script_tables(named, (script,))[0])
 
 
-def least_ways(named, scripts):
+def ways_to_tables(named, scripts):
     """Return the dict of the least way for each table of a way of a lot."""
-    steps = script_tables(named, scripts)
-    found = [own_table(named)]
-    ways = {found[0]: ()}
-    done = 0
-    # The tables are found in the order of their least ways: what is ahead of the last index of a
-    # least way is a least way, too.
-    while done < len(found):
-        table = found[done]
-        for index, step in enumerate(steps):
-            behind = joined(table, step)
-            if behind not in ways:
-                ways[behind] = ways[table] + (index,)
-                found.append(behind)
-        if len(found) > MOST_TABLES:
-            raise TooMany(MOST_TABLES)
-        done = done + 1
+    ways = least_ways(own_table(named), script_tables(named, scripts), joined, MOST_TABLES)
+    if len(ways) > MOST_TABLES:
+        raise TooMany(MOST_TABLES)
     return ways

@@ -1,6 +1,6 @@
 """Companies told by numbers of parts: of all with two people besides, or of the whole where there are fewer."""
 
-from twobesides.ties import all_companies, pair_of, pairs_of, part_for
+from twobesides.ties import all_companies, pair_of, pairs_besides, part_for
 
 
 def part_people(named, people):
@@ -12,7 +12,7 @@ def besides_told(named, people):
     """Return the list of the tuples of the people besides in each of the parts that tell a company of so many."""
     if people < named + 2:
         return [tuple(range(named, people))]
-    return [pair for pair in pairs_of(people) if pair[0] >= named]
+    return pairs_besides(named, people)
 
 
 def part_numbers(named, company):

@@ -46,8 +46,13 @@ def deeds_done(named, company, script):
     """Return the list of the deeds that are done where a company stands ahead of a script."""
     check_company(named, company)
     check_script(named, script)
+    return deeds_for(company, script)
+
+
+def deeds_for(company, items):
+    """Return the list of the deeds that are done where a company stands ahead of deeds and choices."""
     deeds = []
-    follow(bundle_of([company]), script, deeds)
+    follow(bundle_of([company]), items, deeds)
     return deeds
 
 

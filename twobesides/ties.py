@@ -6,8 +6,13 @@ def pairs_of(people):
     return [(one, other) for one in range(people) for other in range(one + 1, people)]
 
 
+def pairs_besides(named, people):
+    """Return the list of all pairs of people besides, the lesser one first, in Python's order."""
+    return [pair for pair in pairs_of(people) if pair[0] >= named]
+
+
 def pair_of(one, other):
-    """Return the pair of two people, the lesser one first."""
+    """Return the pair of two people, or of two numbers, the lesser one first."""
     return (one, other) if one < other else (other, one)
 
 
