@@ -109,14 +109,14 @@ class Leading(unittest.TestCase):
     def test_picked(self):
         picker = Picker(82)
         leads = 0
-        for named, script, lot in picked(83, 12):
+        for named, script, lot in picked(83, 8):
             mates = [lot, lot_ahead(named, script, lot), pick_lot(picker, named, 2, few_smalls(named))]
             for one, other in [(lot, mates[1]), (mates[1], lot), (lot, lot), (lot, mates[2]), (mates[2], lot)]:
                 fallen = slow_fallen(named, script, one, other)
                 self.assertEqual(company_fallen(named, script, one, other), fallen)
                 self.assertIs(does_lead(named, script, one, other), fallen is None)
                 leads += fallen is None
-        self.assertGreater(leads, 40)
+        self.assertGreater(leads, 25)
 
     def test_no_lots(self):
         for named in (1, 2, 3):

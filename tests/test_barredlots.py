@@ -202,13 +202,13 @@ class Apart(unittest.TestCase):
 
     def test_picked(self):
         alike = 0
-        for named, lot, mate in self.pairs_of_lots(77, 12):
+        for named, lot, mate in self.pairs_of_lots(77, 7):
             apart = self.slow_apart(named, lot, mate)
             self.assertEqual(clear_apart(named, lot, mate), apart)
             told = apart is None and self.slow_apart(named, mate, lot) is None
             self.assertIs(are_lots_alike(named, lot, mate), told)
             alike += told
-        self.assertGreater(alike, 20)
+        self.assertGreater(alike, 10)
 
     def test_lots_and_none(self):
         for named in (1, 2, 3):

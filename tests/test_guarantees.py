@@ -295,7 +295,7 @@ class Ways(unittest.TestCase):
 
     def test_all_companies_become_one_just_if_all_views_do(self):
         told = []
-        for picker, stock in self.forgetful(272, 140):
+        for picker, stock in self.forgetful(272, 90):
             way = forgetting_way(2, stock)
             self.assertIs(way is None, lasting_pair(2, stock) is not None)
             for some in [way or (0, 1)] + [picker.shuffled(range(3))[:2] for _ in range(2)]:
@@ -310,7 +310,7 @@ class Ways(unittest.TestCase):
                     self.assertEqual(len(companies), 1)
             if way is not None:
                 self.assertTrue(told[-3])
-        self.assertGreater(min(told.count(True), told.count(False)), 20)
+        self.assertGreater(min(told.count(True), told.count(False)), 12)
 
     def test_all_parts_are_of_the_wish_just_if_all_views_are_led_into_it(self):
         told = []

@@ -91,8 +91,9 @@ class Imports(unittest.TestCase):
             left = {name: needs for name, needs in left.items() if name not in free}
 
     def test_each_function_stands_in_its_own_file(self):
+        told = trees()
         for function, _, _ in CALLS:
-            self.assertIn(function.__name__, self.defined(trees()[function.__module__.partition(".")[2]]))
+            self.assertIn(function.__name__, self.defined(told[function.__module__.partition(".")[2]]))
 
 
 class Names(unittest.TestCase):
