@@ -2,7 +2,9 @@
 
 from itertools import combinations, permutations
 
+from twobesides.bundles import bundle_of
 from twobesides.errors import BesidesError, InvalidText, TooMany
+from twobesides.hosts import Host
 
 
 class Picker:
@@ -154,7 +156,8 @@ def asks(deep):
 ANYTHING = [
     None, True, False, -1, 10 ** 119, -10 ** 119, "", "1", "pairs", "~" * 4000, "\n", [], [1], [()], (None,), (True,),
     ("",), (-1, ()), [2, []], (True, ()), ((0, 1),), (0,) * 1000, ((),) * 1000, [0] * 1000, nested(0, 99),
-    asks(49), BesidesError("x"), InvalidText(3), (TooMany(9),), (InvalidText(0), ()),
+    asks(49), BesidesError("x"), InvalidText(3), (TooMany(9),), (InvalidText(0), ()), Host(1, (1, ())), (Host(2, (4, ((0, 2),))),),
+    bundle_of([(3, ((0, 1),))]),
 ]
 
 
@@ -408,3 +411,264 @@ def put_first(ways):
     """The least one of ways, or None: fewer indices come first, then Python's order."""
     return min(ways, key=lambda way: (len(way), way), default=None)
 
+
+
+def every_start(named):
+    """All companies of the named ones alone, in Python's order."""
+    return every_company(named)
+
+
+def short_script(picker, named, most=8, depth=2, items=4):
+    """A script with at most so many deeds and choices in all."""
+    while True:
+        script = pick_script(picker, named, picker.below(items + 1), depth)
+        if slow_count(script) <= most:
+            return script
+
+
+def slow_count(script):
+    """How many deeds and choices there are in a script in all."""
+    return sum(1 + (slow_count(item[3]) + slow_count(item[4]) if item[0] == "ask" else 0) for item in script)
+
+
+def slow_step(company, script):
+    """What is left of a script behind its first step, and what comes of the company."""
+    item = script[0]
+    if item[0] != "ask":
+        return slow_deed(company, item), script[1:]
+    return company, item[3 if slow_know(company, item[1], item[2]) else 4] + script[1:]
+
+
+def slow_weavings(company, script, other):
+    """All weavings of two scripts for a company, each with its end."""
+    if script == () and other == ():
+        return {(): company}
+    told = {}
+    if script != ():
+        behind, left = slow_step(company, script)
+        told.update({(0,) + way: end for way, end in slow_weavings(behind, left, other).items()})
+    if other != ():
+        behind, left = slow_step(company, other)
+        told.update({(1,) + way: end for way, end in slow_weavings(behind, script, left).items()})
+    return told
+
+
+def slow_kind(named, company, person):
+    return sum(2 ** one for one in range(named) if slow_know(company, one, person))
+
+
+def slow_kind_pairs(named):
+    return [(kind, other) for kind in range(2 ** named) for other in range(kind, 2 ** named)]
+
+
+def slow_summary(named, company):
+    """The summary of a company of any number of people, by the words of [29]."""
+    besides = range(named, company[0])
+    kinds = {person: slow_kind(named, company, person) for person in besides}
+    numbers = tuple(sum(kinds[person] == kind for person in besides) for kind in range(2 ** named))
+    tied = []
+    for pair in slow_kind_pairs(named):
+        known = [tie for tie in company[1] if tie[0] >= named and tuple(sorted((kinds[tie[0]], kinds[tie[1]]))) == pair]
+        tied.append(len(known))
+    return tuple(tie for tie in company[1] if tie[1] < named), numbers, tuple(tied)
+
+
+def slow_pairs_of(numbers, pair):
+    """How many pairs of people of a pair of kinds there are."""
+    kind, other = pair
+    return numbers[kind] * (numbers[kind] - 1) // 2 if kind == other else numbers[kind] * numbers[other]
+
+
+def wrong_summaries(named):
+    """Values that are no summaries for so many named ones."""
+    kinds = 2 ** named
+    pairs = slow_kind_pairs(named)
+    own, numbers = (), (2,) * kinds
+    tied = tuple(slow_pairs_of(numbers, pair) for pair in pairs)
+    good = (own, numbers, tied)
+    wrong = [list(good), good[:2], good + ((),), (list(own), numbers, tied), (own, list(numbers), tied), (own, numbers, list(tied))]
+    wrong += [(value, numbers, tied) for value in wrong_owns(named)]
+    wrong += [(own, value, tied) for value in ANYTHING + [numbers[1:], numbers + (0,), ()]]
+    wrong += [(own, numbers, value) for value in ANYTHING + [tied[1:], tied + (0,), ()]]
+    for at in range(kinds):
+        for value in (-1, 10 ** 30 + 1, None, True, "2", (2,)):
+            wrong.append((own, numbers[:at] + (value,) + numbers[at + 1:], (0,) * len(pairs)))
+    for at in range(len(pairs)):
+        for value in (-1, tied[at] + 1, 10 ** 119, None, True, "1", (1,)):
+            wrong.append((own, numbers, tied[:at] + (value,) + tied[at + 1:]))
+        wrong.append((own, (0,) * kinds, (0,) * at + (1,) + (0,) * (len(pairs) - at - 1)))
+    return ANYTHING + [()] + wrong
+
+
+def wrong_owns(named):
+    """Values that are no ascending tuples of pairs of named ones."""
+    wrong = [0, (0,), ((0, 0),), ((1, 0),), ((0, named),), ((-1, 0),), [(0, 1)], ([0, 1],), ((0, True),), ((0, 1), (0, 1)), ((0,),)]
+    if named == 3:
+        wrong += [((0, 2), (0, 1)), ((1, 2), (0, 2)), ((0, 1), (2, 1)), ((0, 1), (0, 2, 1))]
+    return [value for value in ANYTHING if value != () and (value != ((0, 1),) or named == 1)] + wrong
+
+
+def pick_summary(picker, named, most):
+    """A summary with at most so many people of each kind."""
+    numbers = tuple(picker.below(most + 1) for _ in range(2 ** named))
+    tied = tuple(picker.below(slow_pairs_of(numbers, pair) + 1) for pair in slow_kind_pairs(named))
+    return picker.one_of(every_start(named))[1], numbers, tied
+
+
+def every_sided_company(people):
+    """All sided companies of so many people, in the order of [37]."""
+    pairs = list(permutations(range(people), 2))
+    told = [(people, knows, moods) for many in range(len(pairs) + 1) for knows in combinations(pairs, many)
+            for some in range(people + 1) for moods in combinations(range(people), some)]
+    return sorted(told, key=lambda sided: (len(sided[1]), sided))
+
+
+def pick_sided(picker, people):
+    """A sided company of so many people: all is tossed."""
+    pairs = [pair for pair in permutations(range(people), 2) if picker.below(2)]
+    return people, tuple(sorted(pairs)), tuple(person for person in range(people) if picker.below(2))
+
+
+def pick_sided_deed(picker):
+    word = picker.one_of(("pairs", "meets", "liked", "moods"))
+    return word, picker.answers(16 if word == "pairs" else 8)
+
+
+def pick_sided_script(picker, many):
+    return tuple(pick_sided_deed(picker) for _ in range(many))
+
+
+def slow_sided_deed(sided, deed):
+    """What comes of a sided company by a sided deed, by the words of [36]."""
+    people, knows, moods = sided
+    word, answers = deed
+    told_knows, told_moods = set(knows), set(moods)
+    if word == "pairs":
+        for one, other in permutations(range(1, people), 2):
+            asked = [(one, other) in knows, (other, one) in knows, (0, one) in knows, (0, other) in knows]
+            told_knows.discard((one, other))
+            if answers[sum(2 ** (3 - index) for index in range(4) if asked[index])]:
+                told_knows.add((one, other))
+        return people, tuple(sorted(told_knows)), moods
+    for one in range(1, people):
+        asked = [(0, one) in knows, (one, 0) in knows, one in moods]
+        answer = answers[sum(2 ** (2 - index) for index in range(3) if asked[index])]
+        told, what = {"meets": (told_knows, (0, one)), "liked": (told_knows, (one, 0)), "moods": (told_moods, one)}[word]
+        told.discard(what)
+        if answer:
+            told.add(what)
+    return people, tuple(sorted(told_knows)), tuple(sorted(told_moods))
+
+
+def slow_sided(sided, deeds):
+    for deed in deeds:
+        sided = slow_sided_deed(sided, deed)
+    return sided
+
+
+def wrong_sideds():
+    """Values that are no sided companies."""
+    knows = [
+        [], None, 0, "", True, ((0, 0),), ((2, 2),), ((0, 1), (0, 1)), ((1, 0), (0, 1)), ((0, 3),), ((3, 0),), ((-1, 0),), ((0, True),),
+        ((False, 1),), ([0, 1],), [(0, 1)], ((0,),), ((0, 1, 2),), ((0, "1"),), (None,), (0, 1), ((0, 1), 1), ((0, (1,)),),
+    ]
+    moods = [[], None, 0, "", True, (3,), (-1,), (1, 1), (1, 0), (True,), (False,), [1], ("1",), (None,), ((0,),), (0, 1, 2, 3)]
+    peoples = [0, 7, -1, True, None, "3", (3,), 3 * 10 ** 30]
+    wrong = [(3, some, ()) for some in knows] + [(3, (), some) for some in moods] + [(people, (), ()) for people in peoples]
+    return ANYTHING + wrong + [(), (3,), (3, ()), [3, (), ()], (3, (), (), ()), 3, ((3, (), ()),), (1, (), (1,)), (1, ((0, 1),), ())]
+
+
+def wrong_sided_deeds():
+    """Values that are no sided deeds."""
+    wrong = [(), None, 0, "pairs", ("pairs",), ("pairs", (0,) * 16, 0), ["pairs", (0,) * 16], ("pair", (0,) * 16), (0, (0,) * 16)]
+    wrong += [("Meets", (0,) * 8), ((0,) * 8, "meets"), (("meets",), (0,) * 8), (None, (0,) * 8), ("", (0,) * 8), (["moods"], (0,) * 8)]
+    for word, many in (("pairs", 16), ("meets", 8), ("liked", 8), ("moods", 8)):
+        good = (0, 1) * (many // 2)
+        wrong += [(word, good[:-1]), (word, good + (0,)), (word, ()), (word, list(good)), (word, None), (word, "01" * (many // 2))]
+        wrong += [(word, (0, 1) * (12 - many // 2)), (word, good[:-1] + (2,)), (word, (-1,) + good[1:]), (word, good[:-1] + (True,))]
+        wrong += [(word, (False,) + good[1:]), (word, (None,) * many), (word, ("0",) * many), (word, (good,)), [word, good]]
+    return wrong
+
+
+def wrong_sided_scripts():
+    """Values that are no sided scripts."""
+    good = ("moods", (0, 1) * 4)
+    wrong = [(deed,) for deed in wrong_sided_deeds()] + [(good, deed) for deed in wrong_sided_deeds()]
+    wrong += [good, [good], (good,) * 21, (good,) * 1000, ((good,),), (good, (good,))]
+    return [value for value in ANYTHING if value != ()] + wrong
+
+
+def slow_entry(company, entry):
+    """What comes of a company by an entry."""
+    word, told = entry
+    people, ties = company
+    if word == "deed":
+        return slow_deed(company, told)
+    if word == "come":
+        return people + 1, tuple(sorted(ties + tuple((friend, people) for friend in told)))
+    stay = [tie for tie in ties if told not in tie]
+    return people - 1, tuple(tuple(person - (person > told) for person in tie) for tie in stay)
+
+
+def slow_book(book):
+    """The companies of a day-book."""
+    companies = [book[1]]
+    for entry in book[2]:
+        companies.append(slow_entry(companies[-1], entry))
+    return companies
+
+
+def pick_entry(picker, named, people):
+    """An entry, if there are so many people."""
+    word = picker.one_of(("deed", "deed", "come", "leave"))
+    if word == "come" and people < 9:
+        return word, tuple(person for person in range(people) if picker.below(2))
+    if word == "leave" and people > named:
+        return word, named + picker.below(people - named)
+    return "deed", pick_deed(picker, named)
+
+
+def pick_book(picker, named, many, people=None):
+    """A day-book of so many entries, with so many people at first."""
+    people = named + picker.below(10 - named) if people is None else people
+    company = pick_company(picker, people)
+    entries = []
+    for _ in range(many):
+        entries.append(pick_entry(picker, named, people))
+        people += {"deed": 0, "come": 1, "leave": -1}[entries[-1][0]]
+    return named, company, tuple(entries)
+
+
+def wrong_friends(people):
+    """Values that are no ascending tuples of some of so many people."""
+    return [value for value in ANYTHING if value != ()] + [
+        0, (people,), (-1,), (0, 0), [0], ("0",), (0, None), (0, (1,)), (0, True), (True,), (0, people), ((),), range(1), (1, 0), {0},
+    ]
+
+
+def wrong_entries(named, people):
+    """Values that are no entries, if there are so many people."""
+    good = ("pairs", 0, (0, 0, 0, 1, 1, 1))
+    wrong = [("deed", deed) for deed in wrong_deeds(named)] + [("come", friends) for friends in wrong_friends(people)]
+    wrong += [("leave", person) for person in ANYTHING + [named - 1, people, -1, "3", (named,), 0]]
+    wrong += [(), ("deed",), ("deed", good, 0), ["deed", good], ("Deed", good), (0, good), (good, "deed"), good, ("deed", (good,)), "deed"]
+    wrong += [("come",), ("come", (), ()), ["come", ()], ("comes", ()), ("go", named), (("come",), ()), (None, ()), ("", ()), ("undo", ())]
+    return wrong + [("ask", (0, 1)), ("deed", ("ask", 0, 1, (), ())), ["leave", named], ("leave",), ("leaves", named)]
+
+
+def wrong_books():
+    """Values that are no day-books."""
+    good = ("deed", ("pairs", 0, (0, 0, 0, 1, 1, 1)))
+    wrong = []
+    for named in (1, 2, 3):
+        company = (named + 2, ())
+        wrong += [(value, company, ()) for value in wrong_nameds()]
+        wrong += [(named, value, ()) for value in wrong_companies(named)]
+        wrong += [(named, company, value) for value in ANYTHING if value != ()]
+        wrong += [(named, company, (good, entry)) for entry in wrong_entries(named, named + 2)]
+        wrong += [(named, company, (entry,)) for entry in wrong_entries(named, named + 2)]
+        wrong += [(named, company, (good,) * 31), (named, company, [good]), [named, company, (good,)], (named, company), (named, company, (), ())]
+        wrong += [(named, (9, ()), (("come", ()),)), (named, (named, ()), (("leave", named),)), (named, company, good), (company, named, ())]
+        wrong += [(named, company, (("leave", named + 1),) * 2), (named, company, (("come", ()),) * (8 - named))]
+        wrong += [(named, company, (("leave", named), ("come", (named + 1,)))), (named, company, (("come", (named + 2,)),))]
+    return ANYTHING + wrong

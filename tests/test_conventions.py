@@ -4,15 +4,24 @@ import inspect
 import unittest
 from copy import deepcopy
 
-from twobesides import alikes, arms, barredahead, barredlots, closedrows, comings, companies, companytexts, companyviews
-from twobesides import doing, forgetting, jointways, leadings, needless, onedeeds, onetoones, opposites, plaincompanies
-from twobesides import roots, rounds, scripts, starts, stayings, twins, views, wishes
+from twobesides import ahead, alikes, arms, barredahead, barredlots, closedrows, comings, companies, companytexts
+from twobesides import companyviews, daybooks, doing, forgetting, guests, jointways, leadings, mostties, needless, onedeeds
+from twobesides import onetoones, opposites, plaincompanies, roots, rounds, scripts, sided, sidedalike, starts, stayings
+from twobesides import stops, summaries, summariesled, supplies, tellings, tiecounts, twins, views, weavings, wishes
 from twobesides.errors import BesidesError
 
 P = (4, ((0, 2), (1, 3)))
 Q = (("takes", 0, 1, (0, 1, 1, 0)), ("ask", 0, 1, (), (("tie", 0, 1, "know"),)))
 LOT = ((3, ((0, 2), (1, 2))), (4, ((0, 1), (2, 3))))
 WISH = (1, 2, 4, 8, 18)
+TURN, KNOW, PART = ((("tie", 0, 1, word),) for word in ("turn", "know", "part"))
+SUMMARY = (((0, 1),), (1, 2, 0, 3), (0, 1, 0, 3, 1, 0, 6, 0, 0, 2))
+SUPPLY = (("tie", 0, 1, "turn"), ("takes", 0, 1, (0, 1, 0, 1)))
+FACTS = ((P, (4, ((0, 1), (0, 3), (1, 3)))), ((2, ()), (2, ((0, 1),))))
+SIDED = (3, ((0, 1), (1, 2), (2, 0)), (0, 2))
+SWAP = (("pairs", (0, 0, 0, 0, 1, 1, 1, 1) * 2), ("meets", (0, 1) * 4))
+LIKED = (("liked", (0, 1, 0, 1, 0, 1, 0, 1)), ("moods", (1, 1, 0, 0, 0, 0, 1, 1)))
+BOOK = (2, (3, ((0, 2),)), (("come", (0,)), ("deed", ("pairs", 0, (0, 0, 1, 1, 1, 1))), ("leave", 2), ("deed", KNOW[0])))
 
 CALLS = [
     (companies.is_company, "named value", (2, P)),
@@ -95,6 +104,50 @@ CALLS = [
     (starts.drawn_rows, "named script", (2, Q)),
     (arms.arms_met, "named script", (2, Q)),
     (arms.idle_choices, "named script", (2, Q)),
+    (ahead.ahead_depth, "named script", (2, Q)),
+    (ahead.ahead_script, "named script", (2, Q + Q)),
+    (weavings.is_weaving, "named company script other_script value", (2, P, Q, TURN, (0, 1, 0, 0))),
+    (weavings.woven, "named company script other_script weaving", (2, P, Q, TURN, (0, 1, 0))),
+    (weavings.ends_of, "named company script other_script", (2, P, Q, TURN)),
+    (weavings.never_quarrel, "named script other_script", (2, Q, TURN)),
+    (weavings.quarrel_of, "named script other_script", (2, Q, TURN)),
+    (stops.do_exchange, "named script other_script", (2, Q, TURN)),
+    (stops.stops_alike, "named script other_script", (2, Q, TURN)),
+    (summaries.is_summary, "named value", (2, SUMMARY)),
+    (summaries.summary_of, "named company", (2, P)),
+    (summaries.ties_of_summary, "named summary", (2, SUMMARY)),
+    (summaries.company_for, "named summary", (2, SUMMARY)),
+    (summariesled.summary_behind, "named summary script", (2, SUMMARY, Q)),
+    (summariesled.summary_after, "named summary script times", (2, SUMMARY, Q, 5)),
+    (summariesled.tie_form, "named script own", (2, Q, ((0, 1),))),
+    (tiecounts.as_many_ties, "named script other_script", (2, Q, TURN)),
+    (tiecounts.ties_parting, "named script other_script", (2, Q, TURN)),
+    (tiecounts.as_many_known, "named script other_script one", (2, Q, TURN, 1)),
+    (tiecounts.known_parting, "named script other_script one", (2, Q, TURN, 1)),
+    (mostties.most_ties, "named script besides", (2, Q, 3)),
+    (mostties.least_ties, "named script besides", (2, Q, 3)),
+    (supplies.is_supply, "named value", (2, SUPPLY)),
+    (supplies.are_facts, "named value", (2, FACTS)),
+    (supplies.supply_row, "named supply facts", (2, SUPPLY, FACTS)),
+    (supplies.count_supply_rows, "named supply facts many", (2, SUPPLY, FACTS, 5)),
+    (supplies.twin_parts, "named facts", (2, FACTS)),
+    (tellings.parted_by, "named company scripts", (2, P, (Q, TURN, ()))),
+    (tellings.parted_at, "named start scripts", (2, (2, ((0, 1),)), (Q, TURN, ()))),
+    (tellings.telling_starts, "named scripts", (2, (Q, TURN, ()))),
+    (tellings.telling_company, "named start scripts", (2, (2, ((0, 1),)), (Q, TURN, ()))),
+    (sided.is_sided, "value", (SIDED,)),
+    (sided.are_sided_deeds, "value", (SWAP,)),
+    (sided.sided_done, "sided deeds", (SIDED, SWAP)),
+    (sidedalike.sided_alike, "deeds others", (SWAP, LIKED)),
+    (sidedalike.sided_parting, "deeds others", (SWAP, LIKED)),
+    (sidedalike.sided_round, "deeds", (SWAP,)),
+    (sidedalike.keeps_mutual, "deeds", (LIKED,)),
+    (daybooks.is_book, "value", (BOOK,)),
+    (daybooks.book_companies, "book", (BOOK,)),
+    (daybooks.exchanged_entries, "book", (BOOK,)),
+    (guests.guests_of, "book", (BOOK,)),
+    (guests.trail_of, "book person other", (BOOK, 0, 2)),
+    (guests.without_guest, "book guest", (BOOK, 1)),
 ]
 
 

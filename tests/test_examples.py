@@ -10,6 +10,8 @@ MODULES = {
     49: "companytexts", 50: "alikes", 51: "needless", 52: "onedeeds", 53: "closedrows", 54: "barredlots",
     55: "barredlots", 56: "barredahead", 57: "barredahead", 58: "onetoones", 59: "rounds", 60: "roots", 61: "comings",
     62: "stayings", 63: "leadings", 64: "jointways", 65: "twins", 66: "forgetting", 67: "wishes", 68: "starts", 69: "arms",
+    70: "ahead", 71: "weavings", 72: "stops", 73: "summaries", 74: "summariesled", 75: "tiecounts", 76: "mostties",
+    77: "supplies", 78: "tellings", 79: "sided", 80: "sidedalike", 81: "daybooks", 82: "guests", 83: "hosts",
 }
 
 

@@ -9,7 +9,7 @@ from tests.test_conventions import CALLS
 
 FOLDER = Path(__file__).parent.parent / "twobesides"
 LIBRARY = {"math": {"gcd", "lcm", "isqrt", "comb", "perm", "factorial"}}
-LET = """len range enumerate zip min max sum abs sorted reversed int str bool list tuple dict set isinstance ord repr any all
+LET = """property len range enumerate zip min max sum abs sorted reversed int str bool list tuple dict set isinstance ord repr any all
     divmod ValueError TypeError""".split()
 BARRED = """register mro elements open input law type enum Generic Protocol ABC dataclass overload eval exec compile globals
     locals vars dir id help exit quit super""".split()
@@ -30,7 +30,7 @@ def trees():
 def bound_names(tree):
     """All names that are bound anywhere in a file: functions, classes, parameters, variables."""
     for node in ast.walk(tree):
-        if isinstance(node, (ast.FunctionDef, ast.ClassDef)) and node.name != "__init__":
+        if isinstance(node, (ast.FunctionDef, ast.ClassDef)) and node.name not in ("__init__", "__eq__", "__len__"):
             yield node.name
         elif isinstance(node, ast.arg):
             yield node.arg
@@ -57,7 +57,8 @@ class Files(unittest.TestCase):
             for node in ast.walk(tree):
                 if isinstance(node, ast.FunctionDef):
                     self.assertLessEqual(node.end_lineno - node.lineno + 1, 40, f"{name}.{node.name}")
-                    self.assertEqual(node.decorator_list, [], f"{name}.{node.name}")
+                    decorators = [decorator.id for decorator in node.decorator_list]
+                    self.assertIn(decorators, ([], ["property"]) if name == "hosts" else ([],), f"{name}.{node.name}")
 
 
 class Imports(unittest.TestCase):
@@ -126,8 +127,8 @@ class Names(unittest.TestCase):
 
 class Expressions(unittest.TestCase):
     def test_nothing_that_is_not_let(self):
-        barred = (ast.Global, ast.Try, ast.Div, ast.AsyncFunctionDef, ast.Await)
         for name, tree in trees().items():
+            barred = (ast.Global, ast.Div, ast.AsyncFunctionDef, ast.Await) + (() if name == "hosts" else (ast.Try,))
             for node in ast.walk(tree):
                 self.assertNotIsInstance(node, barred, f"{name}: {getattr(node, 'lineno', '')}")
                 if isinstance(node, ast.Constant):

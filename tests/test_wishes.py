@@ -3,7 +3,7 @@
 import unittest
 from itertools import combinations
 
-from tests.helpers import ANYTHING, Picker, every_company, pick_company, pick_stock, refuse, slow_done, slow_part, slow_table
+from tests.helpers import ANYTHING, Picker, every_company, pick_company, refuse, slow_done, slow_part, slow_table
 from tests.helpers import wrong_lots, wrong_nameds, wrong_numbers
 from tests.test_forgetting import FORGET, FT, ONE_MORE_AHEAD, THOUSAND_AHEAD, first_lots, picked_stocks, slow_lots
 from twobesides.companytexts import read_script

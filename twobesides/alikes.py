@@ -1,6 +1,6 @@
 """Scripts that do the same to all companies, and companies that tell scripts apart."""
 
-from twobesides.bundles import bundle_of, items_done
+from twobesides.bundles import bundle_of, items_done, unlike_in
 from twobesides.checks import check_script, check_scripts
 from twobesides.tables import script_tables
 from twobesides.ties import all_companies
@@ -34,11 +34,7 @@ def order_of_parting(company):
 def first_parted(companies, script, beside):
     """Return the index of the first company of which unlike ones come by two scripts, or None."""
     ahead = bundle_of(companies)
-    first = items_done(ahead, script)
-    second = items_done(ahead, beside)
-    parted = 0
-    for pair in ahead.ties:
-        parted = parted | first.ties[pair] ^ second.ties[pair]
+    parted = unlike_in(items_done(ahead, script), items_done(ahead, beside))
     if parted == 0:
         return None
     return (parted & -parted).bit_length() - 1

@@ -40,6 +40,21 @@ def company_in(bundle, index):
     return bundle.people, tuple(pair for pair in bundle.ties if bundle.ties[pair] >> index & 1)
 
 
+def unlike_in(first, second):
+    """Return the integer of the indices at which two bundles of as many people have unlike companies."""
+    unlike = 0
+    for pair in first.ties:
+        unlike = unlike | first.ties[pair] ^ second.ties[pair]
+    return unlike
+
+
+def put_behind(first, second):
+    """Return the bundle of the companies of a bundle, and behind them of those of another one with as many people."""
+    shift = first.full.bit_length()
+    ties = {pair: first.ties[pair] | second.ties[pair] << shift for pair in first.ties}
+    return Bundle(first.people, first.full | second.full << shift, ties)
+
+
 def answered(answers, asked, also):
     """Return the integer of the companies in which a question of two parts is answered by 1.
 

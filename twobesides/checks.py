@@ -1,9 +1,14 @@
 """The checks of arguments: each raises the error of its argument, or does nothing."""
 
-from twobesides.errors import InvalidBesides, InvalidCompany, InvalidGoal, InvalidLot, InvalidNamed, InvalidNumber
-from twobesides.errors import InvalidPerson, InvalidScript, InvalidScripts, InvalidStock, TooMany
-from twobesides.forms import MOST_NAMED, MOST_PEOPLE, MOST_SCRIPTS, MOST_TIMES, are_scripts_of, are_unlike_between
-from twobesides.forms import is_between, is_company_of, is_lot_of, is_script_of, is_small_of
+from twobesides.bookforms import is_day_book
+from twobesides.errors import InvalidBesides, InvalidBook, InvalidCompany, InvalidFacts, InvalidGoal, InvalidLot
+from twobesides.errors import InvalidNamed, InvalidNumber, InvalidOne, InvalidOwn, InvalidPerson, InvalidScript
+from twobesides.errors import InvalidScripts, InvalidSided, InvalidSidedScript, InvalidStock, InvalidSummary
+from twobesides.errors import InvalidSupply, TooMany
+from twobesides.forms import MOST_NAMED, MOST_PEOPLE, MOST_SCRIPTS, MOST_TIMES, MOST_TOLD_APART, are_facts_of
+from twobesides.forms import are_scripts_of, are_ties_of, are_unlike_between, is_between, is_company_of, is_lot_of
+from twobesides.forms import is_script_of, is_small_of, is_summary_of, is_supply_of
+from twobesides.sidedforms import is_sided_company, is_sided_script
 
 
 def check_named(named):
@@ -105,3 +110,67 @@ def check_few_besides(named, company, most):
     """Refuse a company with more people besides than so many."""
     if company[0] - named > most:
         raise TooMany(most)
+
+
+def check_summary(named, summary):
+    """Refuse what is no number of named ones, or no summary for it."""
+    check_named(named)
+    if not is_summary_of(named, summary):
+        raise InvalidSummary("this is no summary for so many named ones")
+
+
+def check_own(named, own):
+    """Refuse what is no ascending tuple of pairs of named ones, the lesser first."""
+    if not are_ties_of(named, own):
+        raise InvalidOwn("these are no pairs of named ones, in ascending order")
+
+
+def check_one(named, one):
+    """Refuse who is no named one."""
+    if not is_between(one, 0, named - 1):
+        raise InvalidOne("no named one has this number")
+
+
+def check_supply(named, supply):
+    """Refuse what is no number of named ones, or no supply for it."""
+    check_named(named)
+    if not is_supply_of(named, supply):
+        raise InvalidSupply("these are no one to six deeds for so many named ones")
+
+
+def check_facts(named, facts):
+    """Refuse what is no number of named ones, or no facts for it."""
+    check_named(named)
+    if not are_facts_of(named, facts):
+        raise InvalidFacts("these are no one to four pairs of companies with as many people")
+
+
+def check_told_apart(named, scripts):
+    """Refuse what are no two or three scripts."""
+    if not are_scripts_of(named, scripts, MOST_TOLD_APART) or len(scripts) < 2:
+        raise InvalidScripts("these are no two or three scripts for so many named ones")
+
+
+def check_start(named, start):
+    """Refuse what is no number of named ones, or no company of the named ones alone."""
+    check_company(named, start)
+    if start[0] != named:
+        raise InvalidCompany("somebody besides is in this company")
+
+
+def check_sided(sided):
+    """Refuse what is no sided company."""
+    if not is_sided_company(sided):
+        raise InvalidSided("this is no sided company")
+
+
+def check_sided_script(deeds):
+    """Refuse what is no sided script."""
+    if not is_sided_script(deeds):
+        raise InvalidSidedScript("these are no sided deeds, not more than twenty")
+
+
+def check_book(book):
+    """Refuse what is no day-book."""
+    if not is_day_book(book):
+        raise InvalidBook("this is no day-book")

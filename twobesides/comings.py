@@ -1,7 +1,7 @@
 """Which companies come to a company by a script."""
 
 from twobesides.checks import check_company, check_few_besides, check_script
-from twobesides.kinds import company_of_kinds, own_ties, views_told
+from twobesides.kinds import company_of_kinds, views_told
 from twobesides.parts import besides_told, part_numbers
 from twobesides.tables import people_tables, script_tables
 from twobesides.ties import all_companies

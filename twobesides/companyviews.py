@@ -2,7 +2,7 @@
 
 from twobesides.checks import check_company, check_named, check_number
 from twobesides.errors import InvalidBesides, InvalidNumber, TooMany
-from twobesides.forms import MOST_PEOPLE, are_unlike_between, is_ascending, is_between, is_tuple_of
+from twobesides.forms import MOST_PEOPLE, are_people_of, is_between, is_tuple_of
 from twobesides.parts import besides_told, company_of_parts, part_numbers
 from twobesides.ties import all_companies
 
@@ -35,7 +35,7 @@ def company_of_views(named, besides, numbers):
 def with_person(named, company, people):
     """Return a company with one person more, behind the others, whom just these people know."""
     check_company(named, company)
-    if not are_unlike_between(people, 0, company[0] - 1) or not is_ascending(people):
+    if not are_people_of(company[0], people):
         raise InvalidBesides("these are no people of the company, in ascending order")
     if company[0] == MOST_PEOPLE:
         raise TooMany(MOST_PEOPLE)

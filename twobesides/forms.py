@@ -1,5 +1,7 @@
 """Which values are companies and scripts, asked of any value."""
 
+from twobesides.kinds import count_pairs, pairs_of_kinds
+
 MOST_NAMED = 3
 MOST_PEOPLE = 9
 MOST_ITEMS = 30
@@ -8,7 +10,11 @@ MOST_SCRIPTS = 6
 MOST_SMALL = 5
 MOST_SMALL_BESIDES = 3
 MOST_BARRED = 600
+MOST_TOLD_APART = 3
+MOST_SUPPLY = 6
+MOST_FACTS = 4
 MOST_TIMES = 10 ** 30
+MOST_OF_KIND = 10 ** 30
 WORDS = ("know", "part", "turn")
 
 
@@ -56,12 +62,24 @@ def are_ties_of(people, value):
     return all([is_pair_of(people, tie) for tie in value]) and is_ascending(value)
 
 
+def are_people_of(people, value):
+    """Return whether any value is an ascending tuple of some of so many people."""
+    return are_unlike_between(value, 0, people - 1) and is_ascending(value)
+
+
 def is_company_of(named, value):
     """Return whether any value is a company for so many named ones."""
     if not is_tuple_of(value, 2):
         return False
     people, ties = value
     return is_between(people, named, MOST_PEOPLE) and are_ties_of(people, ties)
+
+
+def is_pair_with_as_many(named, value):
+    """Return whether any value is a pair of companies with as many people."""
+    if not is_tuple_of(value, 2):
+        return False
+    return is_company_of(named, value[0]) and is_company_of(named, value[1]) and value[0][0] == value[1][0]
 
 
 def are_answers(value, many):
@@ -143,3 +161,34 @@ def is_lot_of(named, value):
     if not isinstance(value, tuple) or len(value) > MOST_BARRED:
         return False
     return all([is_small_of(named, small) for small in value]) and is_ascending(value)
+
+
+def are_integers_to(value, most):
+    """Return whether any value is a tuple of integers from 0, one for each of a list, at most what stands there."""
+    if not is_tuple_of(value, len(most)):
+        return False
+    return all([is_between(number, 0, greatest) for number, greatest in zip(value, most)])
+
+
+def is_summary_of(named, value):
+    """Return whether any value is a summary for so many named ones."""
+    if not is_tuple_of(value, 3):
+        return False
+    own, numbers, tied = value
+    if not are_ties_of(named, own) or not are_integers_to(numbers, [MOST_OF_KIND] * (1 << named)):
+        return False
+    return are_integers_to(tied, [count_pairs(numbers, kind, other) for kind, other in pairs_of_kinds(named)])
+
+
+def is_supply_of(named, value):
+    """Return whether any value is a supply for so many named ones."""
+    if not isinstance(value, tuple) or not 1 <= len(value) <= MOST_SUPPLY:
+        return False
+    return all([is_deed_of(named, deed) for deed in value])
+
+
+def are_facts_of(named, value):
+    """Return whether any value is facts for so many named ones."""
+    if not isinstance(value, tuple) or not 1 <= len(value) <= MOST_FACTS:
+        return False
+    return all([is_pair_with_as_many(named, pair) for pair in value])

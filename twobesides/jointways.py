@@ -2,7 +2,7 @@
 
 from twobesides.checks import check_named, check_stock
 from twobesides.errors import InvalidPairs
-from twobesides.forms import is_company_of, is_tuple_of
+from twobesides.forms import is_pair_with_as_many
 from twobesides.led import row_of, ways_led
 
 MOST_PAIRS = 6
@@ -23,10 +23,3 @@ def check_pairs(named, pairs):
         raise InvalidPairs("these are no one to six pairs")
     if not all([is_pair_with_as_many(named, pair) for pair in pairs]):
         raise InvalidPairs("these are no pairs of companies with as many people")
-
-
-def is_pair_with_as_many(named, value):
-    """Return whether any value is a pair of companies with as many people."""
-    if not is_tuple_of(value, 2):
-        return False
-    return is_company_of(named, value[0]) and is_company_of(named, value[1]) and value[0][0] == value[1][0]

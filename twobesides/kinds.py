@@ -1,6 +1,19 @@
 """Companies told by the ties between named ones, and by which of these the people besides know."""
 
 
+def pairs_of_kinds(named):
+    """Return the list of all pairs of kinds, the first one at most the other one, in Python's order."""
+    kinds = range(1 << named)
+    return [(kind, other) for kind in kinds for other in kinds if kind <= other]
+
+
+def count_pairs(numbers, kind, other):
+    """Return how many pairs of people of two kinds there are, by how many people there are of each kind."""
+    if kind == other:
+        return numbers[kind] * (numbers[kind] - 1) // 2
+    return numbers[kind] * numbers[other]
+
+
 def own_ties(named, company):
     """Return the tuple of the ties between named ones."""
     return tuple(tie for tie in company[1] if tie[1] < named)

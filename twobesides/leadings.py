@@ -1,7 +1,7 @@
 """Which companies come of one by scripts of a stock, and by which ways."""
 
 from twobesides.checks import check_company, check_few_besides, check_goal, check_number, check_stock
-from twobesides.led import row_led, row_of, steps_of, ways_led
+from twobesides.led import count_ways_led, row_of, ways_led
 from twobesides.orders import in_all_orders
 from twobesides.parts import company_of_parts
 
@@ -22,23 +22,7 @@ def count_ways(named, company, goal, stock, many):
     check_goal(named, company, goal)
     check_stock(named, stock)
     check_number(many, 0, MOST_INDICES)
-    places = {row: place for place, row in enumerate(ways_led(named, [company], stock))}
-    steps = steps_of(named, [company], stock)
-    behind = [[places[row_led(row, tables)] for tables in steps] for row in places]
-    counts = [1] + [0] * (len(behind) - 1)
-    for _ in range(many):
-        counts = counts_behind(counts, behind)
-    goal_row = row_of(named, [goal])
-    return counts[places[goal_row]] if goal_row in places else 0
-
-
-def counts_behind(counts, behind):
-    """Return how many ways lead to each place, from how many with one index less do, and from where these lead."""
-    told = [0] * len(counts)
-    for place, count in enumerate(counts):
-        for other in behind[place]:
-            told[other] = told[other] + count
-    return told
+    return count_ways_led(named, [company], [goal], stock, many)
 
 
 def way_but_names(named, company, goal, stock):

@@ -34,3 +34,24 @@ def ways_led(named, companies, stock):
     if len(ways) > MOST_LED:
         raise TooMany(MOST_LED)
     return ways
+
+
+def count_ways_led(named, companies, goals, stock, many):
+    """Return how many ways of so many indices lead companies to goals, with as many people each, all at once."""
+    places = {row: place for place, row in enumerate(ways_led(named, companies, stock))}
+    steps = steps_of(named, companies, stock)
+    behind = [[places[row_led(row, tables)] for tables in steps] for row in places]
+    counts = [1] + [0] * (len(behind) - 1)
+    for _ in range(many):
+        counts = counts_behind(counts, behind)
+    goal = row_of(named, goals)
+    return counts[places[goal]] if goal in places else 0
+
+
+def counts_behind(counts, behind):
+    """Return how many ways lead to each place, from how many with one index less do, and from where these lead."""
+    told = [0] * len(counts)
+    for place, count in enumerate(counts):
+        for other in behind[place]:
+            told[other] = told[other] + count
+    return told

@@ -37,3 +37,13 @@ def renumbered(company, numbers):
     """Return a company in which each person has the number that stands at its index."""
     ties = [pair_of(numbers[one], numbers[other]) for one, other in company[1]]
     return company[0], tuple(sorted(ties))
+
+
+def put_together(named, company, other):
+    """Return a company to which the people besides of another one with the same start come, as they are there.
+
+    They come behind the others, and none of these knows any of those.
+    """
+    come = company[0] - named
+    ties = [(one if one < named else one + come, person + come) for one, person in other[1] if person >= named]
+    return other[0] + come, tuple(sorted(company[1] + tuple(ties)))
