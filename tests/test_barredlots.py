@@ -235,6 +235,74 @@ class Apart(unittest.TestCase):
             refuse(self, clear_apart, rows)
 
 
+def parts_of_all(named):
+    """For each small company the parts of it for all tuples of unlike people besides."""
+    told = {}
+    for company in every_small(named):
+        orders = [order for many in range(company[0] - named + 1) for order in permutations(range(named, company[0]), many)]
+        told[company] = {slow_part(named, company, order) for order in orders}
+    return told
+
+
+class DrawnLots(unittest.TestCase):
+    """Some hundred lots; all small companies are looked at for each of them."""
+
+    def drawn(self, picker, named, smalls):
+        """A lot of none, one, two, three, or many companies, of all or of few people."""
+        many = picker.one_of((0, 1, 1, 2, 2, 3, 3, 4, 7, 20, 90))
+        most = picker.one_of((named + 1, most_small(named) - 1, most_small(named), most_small(named)))
+        return pick_lot(picker, named, many, [small for small in smalls if small[0] <= most])
+
+    def mates(self, picker, named, lot, parts):
+        """Lots beside a lot: others, such that bar as much, and such that bar a little more or less."""
+        yield self.drawn(picker, named, list(parts))
+        copies = {picker.one_of(sorted(part for part in parts[small] if part[0] == small[0])) for small in lot}
+        held = [small for small in parts if any(part in parts[small] for part in lot)]
+        yield tuple(sorted(copies))
+        yield tuple(sorted(copies | {picker.one_of(held) for _ in range(3 if held else 0)}))
+        yield lot[1:]
+        yield tuple(sorted(set(lot) | {picker.one_of(list(parts))}))
+
+    def test_drawn(self):
+        picker = Picker(79)
+        alike = []
+        for named, many in ((1, 120), (2, 60), (3, 60)):
+            parts = parts_of_all(named)
+            for _ in range(many):
+                lot = self.drawn(picker, named, list(parts))
+                clear = [company for company in parts if parts[company].isdisjoint(lot)]
+                self.check_one(named, lot, parts, clear)
+                for mate in self.mates(picker, named, lot, parts):
+                    alike.append(self.check_two(named, lot, mate, parts, clear))
+        self.assertGreater(min(alike.count(True), alike.count(False)), 200)
+
+    def check_one(self, named, lot, parts, clear):
+        for people in range(named, most_small(named) + 1):
+            self.assertEqual(count_clear(named, lot, people), sum(company[0] == people for company in clear))
+        least = set()
+        for small in lot:
+            if not any(other[0] < small[0] and other in parts[small] for other in lot):
+                least.add(min(part for part in parts[small] if part[0] == small[0]))
+        self.assertEqual(least_lot(named, lot), tuple(sorted(least)))
+
+    def check_two(self, named, lot, mate, parts, clear):
+        others = [company for company in parts if parts[company].isdisjoint(mate)]
+        self.assertEqual(clear_apart(named, lot, mate), min(set(clear) - set(others), default=None))
+        self.assertEqual(clear_apart(named, mate, lot), min(set(others) - set(clear), default=None))
+        self.assertIs(are_lots_alike(named, lot, mate), clear == others)
+        return clear == others
+
+    def test_short_lots_with_companies_of_five_people(self):
+        for named in (2, 3):
+            parts = parts_of_all(named)
+            for lot in (((5, ()),), ((3, ((0, 2),)), (5, ((0, 1), (3, 4)))), ((5, ((0, 1), (3, 4))),), ((4, ((0, 3),)), (5, ((0, 4),)))):
+                if is_barred_lot(named, lot):
+                    self.check_one(named, lot, parts, [company for company in parts if parts[company].isdisjoint(lot)])
+        self.assertEqual(least_lot(2, ((3, ((0, 2),)), (5, ((0, 1), (3, 4))))), ((3, ((0, 2),)), (5, ((0, 1), (2, 3)))))
+        self.assertEqual(least_lot(2, ((5, ()),)), ((5, ()),))
+        self.assertEqual(count_clear(2, (), 5), 1024)
+
+
 class Counts(unittest.TestCase):
     def test_picked(self):
         for named, lot in picked_lots(78, 8):

@@ -1,11 +1,11 @@
 """Lots ahead of scripts: what must be barred first, so that something stays barred."""
 
-from twobesides.barred import barred_by, least_form, most_people
+from twobesides.barred import barred_by, first_of_all, least_form, most_people
+from twobesides.bundles import items_done
 from twobesides.checks import check_lot, check_named, check_script, check_small
 from twobesides.errors import InvalidScript
 from twobesides.forms import are_scripts_of
-from twobesides.tables import people_tables
-from twobesides.ties import all_companies
+from twobesides.places import every_bundle, first_company, numbers_in
 
 MOST_STOCK = 4
 
@@ -17,16 +17,15 @@ def check_few_scripts(named, stock):
         raise InvalidScript("these are no one to four scripts for so many named ones")
 
 
-def behind_up_to(named, script, most):
-    """Return the dict of what comes by a script of each company of at most so many people."""
-    return {ahead: behind for people in range(named, most + 1) for ahead, behind in pairs_led(people, script)}
+def tables_up_to(named, script, most):
+    """Return the list, for each number of people up to one, of the list of what comes of all companies by a script."""
+    return [numbers_in(items_done(every_bundle(people), script)) for people in range(named, most + 1)]
 
 
-def pairs_led(people, script):
-    """Return the list of the pairs of each company of so many people, and of what comes of it by a script."""
-    companies = all_companies(people)
-    table = people_tables(people, (script,))[0]
-    return [(company, companies[number]) for company, number in zip(companies, table)]
+def led_into(some, table):
+    """Return the integer of the companies of which, by the numbers of a table, one that an integer tells comes."""
+    signs = f"{some:b}".zfill(len(table))[::-1]
+    return int("".join([signs[number] for number in table[::-1]]), 2)
 
 
 def lot_ahead(named, script, lot):
@@ -34,17 +33,13 @@ def lot_ahead(named, script, lot):
     check_script(named, script)
     check_lot(named, lot)
     most = most_people(named, lot)
-    barred = barred_by(named, lot, most)
-    behind = behind_up_to(named, script, most)
-    return least_form(named, {company: True for company in behind if behind[company] in barred})
+    told = zip(barred_by(named, lot, most), tables_up_to(named, script, most))
+    return least_form(named, [led_into(some, table) for some, table in told])
 
 
 def does_lead(named, script, lot, mate):
     """Return whether a script leads from the first lot to the second one."""
-    check_script(named, script)
-    check_lot(named, lot)
-    check_lot(named, mate)
-    return first_fallen(named, script, lot, mate) is None
+    return company_fallen(named, script, lot, mate) is None
 
 
 def company_fallen(named, script, lot, mate):
@@ -52,17 +47,9 @@ def company_fallen(named, script, lot, mate):
     check_script(named, script)
     check_lot(named, lot)
     check_lot(named, mate)
-    return first_fallen(named, script, lot, mate)
-
-
-def first_fallen(named, script, lot, mate):
-    """Return what company_fallen does, of what has been checked."""
     most = most_people(named, mate)
-    ahead = barred_by(named, lot, most)
-    barred = barred_by(named, mate, most)
-    behind = behind_up_to(named, script, most)
-    fallen = [company for company in behind if behind[company] in barred and company not in ahead]
-    return min(fallen, default=None)
+    told = zip(barred_by(named, lot, most), barred_by(named, mate, most), tables_up_to(named, script, most))
+    return first_of_all(named, [led_into(other, table) & ~some for some, other, table in told])
 
 
 def shut_lot(named, stock, lot):
@@ -70,24 +57,25 @@ def shut_lot(named, stock, lot):
     check_few_scripts(named, stock)
     check_lot(named, lot)
     most = most_people(named, lot)
-    behinds = [behind_up_to(named, script, most) for script in stock]
+    tables = [tables_up_to(named, script, most) for script in stock]
     barred = barred_by(named, lot, most)
     steps = 0
-    led = led_on(barred, behinds)
-    while len(led) > len(barred):
+    led = led_on(barred, tables)
+    while led != barred:
         barred = led
         steps = steps + 1
-        led = led_on(barred, behinds)
+        led = led_on(barred, tables)
     return least_form(named, barred), steps
 
 
-def led_on(barred, behinds):
-    """Return the dict of the companies that are barred, and of those that come to such ones by some script."""
-    led = {company: True for company in barred}
-    for behind in behinds:
-        for company in behind:
-            if behind[company] in barred:
-                led[company] = True
+def led_on(barred, tables):
+    """Return the list of the integers of companies that are barred, or come to such ones by some script."""
+    led = []
+    for index, some in enumerate(barred):
+        told = some
+        for table in tables:
+            told = told | led_into(some, table[index])
+        led.append(told)
     return led
 
 
@@ -95,4 +83,9 @@ def led_from(named, script, small):
     """Return the least company of which a small one comes by a script, or None."""
     check_script(named, script)
     check_small(named, small)
-    return min([ahead for ahead, behind in pairs_led(small[0], script) if behind == small], default=None)
+    behind = items_done(every_bundle(small[0]), script)
+    some = behind.full
+    for pair in behind.ties:
+        know = behind.ties[pair]
+        some = some & (know if pair in small[1] else behind.full ^ know)
+    return first_company(small[0], some)

@@ -1,10 +1,11 @@
 """Lots of small companies that must not stand among people, and what is clear of them."""
 
-from twobesides.barred import barred_by, least_form, most_people
+from twobesides.barred import barred_by, first_of_all, least_form, most_people
 from twobesides.checks import check_company, check_lot, check_named, check_number, check_small
 from twobesides.forms import is_lot_of, most_small
 from twobesides.orders import in_all_orders, orders_of
-from twobesides.ties import all_companies, part_for
+from twobesides.places import count_ones, count_places
+from twobesides.ties import part_for
 
 
 def is_barred_lot(named, value):
@@ -44,11 +45,6 @@ def is_clear(named, company, lot):
 def least_lot(named, lot):
     """Return the least form of a lot."""
     check_lot(named, lot)
-    return least_of_lot(named, lot)
-
-
-def least_of_lot(named, lot):
-    """Return the least form of a lot that has been checked."""
     return least_form(named, barred_by(named, lot, most_people(named, lot)))
 
 
@@ -56,23 +52,22 @@ def are_lots_alike(named, lot, mate):
     """Return whether two lots have the same clear companies."""
     check_lot(named, lot)
     check_lot(named, mate)
-    return least_of_lot(named, lot) == least_of_lot(named, mate)
+    most = most_people(named, lot + mate)
+    return barred_by(named, lot, most) == barred_by(named, mate, most)
 
 
 def clear_apart(named, lot, mate):
     """Return the least company that is clear of the first lot and not of the second one, or None."""
     check_lot(named, lot)
     check_lot(named, mate)
-    most = most_people(named, mate)
-    barred = barred_by(named, lot, most)
     # With more people than the second lot tells of, a part is such a company already.
-    apart = [company for company in barred_by(named, mate, most) if company not in barred]
-    return min(apart, default=None)
+    most = most_people(named, mate)
+    both = zip(barred_by(named, lot, most), barred_by(named, mate, most))
+    return first_of_all(named, [other & ~some for some, other in both])
 
 
 def count_clear(named, lot, people):
     """Return how many companies of so many people are clear of a lot."""
     check_lot(named, lot)
     check_number(people, named, most_small(named))
-    barred = barred_by(named, lot, people)
-    return len([company for company in all_companies(people) if company not in barred])
+    return (1 << count_places(people)) - count_ones(barred_by(named, lot, people)[-1])
