@@ -75,19 +75,27 @@ def ways_apart(strands, ends, number, many):
     way = ()
     while True:
         moved = [moved_on(strands, place, number, side, many) for side in (0, 1)]
-        several = [side for side in (0, 1) if ends[moved[side][0][0]][moved[side][0][1]][moved[side][1]] == MANY]
+        several = [side for side in (0, 1) if end_of(ends, moved[side]) == MANY]
         if several == []:
+            # Both go on to one end each: these must be unlike, or there were one end from here on.
             one, other = [way + (side,) + straight_on(strands, moved[side], many) for side in (0, 1)]
             return one, other
         way = way + (several[0],)
         place, number = moved[several[0]]
 
 
+def end_of(ends, moved):
+    """Return the end, or MANY, from a place and the number of a view on."""
+    (one, other), number = moved
+    return ends[one][other][number]
+
+
 def moved_on(strands, place, number, side, many):
     """Return the pair of the place and of the number of the view behind a step of one of both strands."""
     lead, first, second = strands[side][place[side]]
     index = first if lead[number] < many else second
-    return (index, place[1]) if side == 0 else (place[0], index), lead[number] % many
+    behind = (index, place[1]) if side == 0 else (place[0], index)
+    return behind, lead[number] % many
 
 
 def straight_on(strands, moved, many):
